@@ -1,0 +1,1 @@
+"""keptrest: a language with kept continuations."""

@@ -1,0 +1,75 @@
+"""The meaning of programs: single steps, and runs."""
+
+from keptrest.course import Course
+from keptrest.frames import linked, unlinked, words_of_link
+from keptrest.lifetimes import Lifetimes
+from keptrest.standings import start
+from keptrest.steps import take_step
+
+
+def course_at(program, limits, standing):
+    """The course that stands at a standing."""
+    course = Course(program, limits, standing)
+    course.link = linked(standing[1])
+    course.most_words = sum([course.memory.words_at(address) for address in range(len(standing[3]))])
+    return course
+
+
+def standing_of_course(course):
+    """The standing at which a course stands."""
+    memory = course.memory
+    kont = unlinked(course.link)
+    return (course.control, kont, course.winds, memory.whole_store(), course.inputs, tuple(course.output))
+
+
+def step(program, limits, standing):
+    """("on", STANDING) with the next standing, or ("ended", ENDING, OUTPUT)."""
+    course = course_at(program, limits, standing)
+    ending = take_step(course)
+    if ending is not None:
+        return ("ended", ending, tuple(course.output))
+    return ("on", standing_of_course(course))
+
+
+def run(program, inputs, limits, steps):
+    """(ENDING, OUTPUT, COUNT, WEIGHT) of a run of at most so many steps."""
+    course = course_at(program, limits, start(program, inputs))
+    lives = Lifetimes(course)
+    ending = None
+    count = 0
+    while count < steps and ending is None:
+        ending = take_step(course)
+        count += 1
+        if ending is None:
+            lives.note_standing()
+    if ending is None:
+        ending = ("open",)
+    return (ending, tuple(course.output), count, lives.greatest_weight())
+
+
+def standing_after(program, inputs, limits, steps):
+    """The standing behind so many steps; None if the run has ended by then."""
+    course = course_at(program, limits, start(program, inputs))
+    for _ in range(steps):
+        if take_step(course) is not None:
+            return None
+    return standing_of_course(course)
+
+
+def is_body(course):
+    """True if the body of a function comes next."""
+    if course.control[0] != "eval" or course.control[1] == ():
+        return False
+    return course.places.term(course.control[1][:-1])[0] == "fn"
+
+
+def step_words(program, inputs, limits, steps):
+    """The pairs (PLACE, words of KONT) of all standings at which the body of a function comes next."""
+    course = course_at(program, limits, start(program, inputs))
+    found = []
+    for _ in range(steps):
+        if take_step(course) is not None:
+            break
+        if is_body(course):
+            found.append((course.control[1], words_of_link(course.link)))
+    return tuple(found)

@@ -1,0 +1,94 @@
+"""Data with keys and paths, as rules and expansion use them."""
+
+
+class Word:
+    """A word: its key, the word to which it goes back, its path for errors, its spot in the program."""
+
+    def __init__(self, key, letters, path, spot):
+        self.key = key
+        self.letters = letters
+        self.path = path
+        self.spot = spot
+        self.size = 1
+        self.depth = 0
+
+
+class Fixed:
+    """A number, a truth or ()."""
+
+    def __init__(self, value, path):
+        self.value = value
+        self.path = path
+        self.size = 1
+        self.depth = 0
+
+
+class Row:
+    """A list of at least one item, with a tail that is no list."""
+
+    def __init__(self, parts, tail, path):
+        self.parts = parts
+        self.tail = tail
+        self.path = path
+        self.size = 1 + sum([part.size for part in parts]) + (0 if is_nothing(tail) else tail.size)
+        self.depth = 1 + max([part.depth for part in parts])
+
+
+def is_nothing(node):
+    """True for ()."""
+    return isinstance(node, Fixed) and node.value == ()
+
+
+def is_spelled(node, letters):
+    """True for a word that goes back to this one."""
+    return isinstance(node, Word) and node.letters == letters
+
+
+def node_of(datum, path):
+    """The node of a plain datum: keys are the words themselves."""
+    if type(datum) is tuple and len(datum) > 0:
+        if datum[0] == "name":
+            return Word(datum[1], datum[1], path, path)
+        parts = tuple([node_of(item, path + (k,)) for k, item in enumerate(datum[1])])
+        tail_path = path if datum[2] == () else path + (len(parts),)
+        return Row(parts, node_of(datum[2], tail_path), path)
+    return Fixed(datum, path)
+
+
+def datum_of(node):
+    """The plain datum of a node."""
+    if isinstance(node, Word):
+        return ("name", node.letters)
+    if isinstance(node, Fixed):
+        return node.value
+    return ("list", tuple([datum_of(part) for part in node.parts]), datum_of(node.tail))
+
+
+def parts_of_node(node):
+    """The items of a node and its tail; a node that is no list has none and is its own tail."""
+    if isinstance(node, Row):
+        return node.parts, node.tail
+    return (), node
+
+
+def row_of(parts, tail, path):
+    """The list of these items that goes on with a tail, which may be a list itself."""
+    if not parts:
+        return tail
+    if isinstance(tail, Row):
+        return Row((*parts, *tail.parts), tail.tail, path)
+    return Row(tuple(parts), tail, path)
+
+
+def words_in(node):
+    """All words in a node, in writing order."""
+    words = []
+    waiting = [node]
+    while waiting:
+        part = waiting.pop()
+        if isinstance(part, Word):
+            words.append(part)
+        elif isinstance(part, Row):
+            waiting.append(part.tail)
+            waiting.extend(part.parts[::-1])
+    return words

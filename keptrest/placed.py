@@ -1,0 +1,55 @@
+"""The places of a program that is run: terms, free numbers, and what frames are cut to."""
+
+from keptrest.terms import free_in, parts_of, set_numbers
+
+
+class Places:
+    """A program with all that has been worked out of its places."""
+
+    def __init__(self, program):
+        self.terms = {(): program}
+        self.frees = {}
+        self.laters = {}
+        self.boxed = {number: True for number in set_numbers(program)}
+
+    def term(self, place):
+        """The term at a place."""
+        if place not in self.terms:
+            term = self.terms[()]
+            for number in place:
+                term = parts_of(term)[number]
+            self.terms[place] = term
+        return self.terms[place]
+
+    def free(self, place):
+        """The free numbers of the term at a place, as a dict."""
+        if place not in self.frees:
+            self.frees[place] = {number: True for number in free_in(self.term(place))}
+        return self.frees[place]
+
+    def later(self, place, child):
+        """The numbers that a frame keeps while a child of the term at a place is evaluated, as a dict."""
+        key = (place, child)
+        if key not in self.laters:
+            term = self.term(place)
+            kept = {}
+            for k in range(child + 1, len(parts_of(term))):
+                kept.update(self.free(place + (k,)))
+            if term[0] == "let":
+                kept.pop(term[1], None)
+            self.laters[key] = kept
+        return self.laters[key]
+
+
+def cut_to(env, numbers):
+    """An environment cut to the numbers of a dict."""
+    return tuple([pair for pair in env if pair[0] in numbers])
+
+
+def with_pairs(env, pairs):
+    """An environment with further pairs, by the numbers, ascending."""
+    return tuple(sorted([*env, *pairs], key=number_of))
+
+
+def number_of(pair):
+    return pair[0]
