@@ -127,7 +127,8 @@ def read_nodes(text):
         elif kind == "'":
             opened.append(OpenQuote(place))
         elif kind == ".":
-            opened[-1].waits_for_tail = True
+            around = opened[-1]
+            around.waits_for_tail = True
         elif kind == ")":
             ended = opened.pop()
             end_datum(opened, program, ended.closed())

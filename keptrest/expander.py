@@ -133,7 +133,7 @@ def paths_of_numbers(fated):
 
 def lot_in(fated, path):
     """The lot of a path, from the fates of all words as a tuple of pairs."""
-    fates_of = dict(fated)
+    fates_of = {other: fates for other, fates in fated}
     if path not in fates_of:
         raise NotThere(path)
     paths_of = paths_of_numbers(fated)
@@ -157,11 +157,12 @@ def lot_of(program, path):
 def is_clean(program, path):
     """True if the lot of the word at a path is clean."""
     fated = word_fates(program)
-    fates_of = dict(fated)
-    fates = []
-    for other in lot_in(fated, path):
-        fates.extend(fates_of[other])
-    return len(fates) > 0 and all(fate[0] in ("binds", "refers") for fate in fates)
+    lot = {other: True for other in lot_in(fated, path)}
+    found = []
+    for other, fates in fated:
+        if other in lot:
+            found.extend(fates)
+    return len(found) > 0 and all(fate[0] in ("binds", "refers") for fate in found)
 
 
 def with_word(datum, path, paths, word):

@@ -26,15 +26,16 @@ class Lifetimes:
     def note_standing(self):
         """Notes what the standing holds, and what a change took away from a thing of the one before."""
         course = self.course
+        memory = course.memory
         now = len(self.sizes)
-        if course.memory.changed is not None:
-            self.note_values(thing_values(course.memory.changed), now - 1)
-            course.memory.changed = None
+        if memory.changed is not None:
+            self.note_values(thing_values(memory.changed), now - 1)
+            memory.changed = None
         self.note_values(control_values(course.control), now)
         self.note_values([course.winds], now)
         if course.link is not None:
             self.last_links[course.link] = now
-        self.sizes.append(len(course.memory.store))
+        self.sizes.append(len(memory.store))
 
     def last_reached(self):
         """The dict from addresses to the last standings in which they are reached."""

@@ -72,12 +72,17 @@ def parts_of_node(node):
 
 
 def row_of(parts, tail, path):
-    """The list of these items that goes on with a tail, which may be a list itself."""
+    """The list of these items that goes on with a tail, which may be a list itself.
+
+    A () at its end has the path of this list, whatever list it ended before.
+    """
     if not parts:
         return tail
+    whole = tuple(parts)
     if isinstance(tail, Row):
-        return Row((*parts, *tail.parts), tail.tail, path)
-    return Row(tuple(parts), tail, path)
+        whole = (*parts, *tail.parts)
+        tail = tail.tail
+    return Row(whole, Fixed((), path) if is_nothing(tail) else tail, path)
 
 
 def words_in(node):

@@ -377,6 +377,16 @@ class PlacesBack(unittest.TestCase):
         text = "(macro m () ((_ . b) (add . b))) (m 1 2)"
         self.assertEqual(self.paths(text), [(1,), (1, 1), (1, 2)])
 
+    def test_the_end_of_a_list_that_a_template_made(self):
+        text = "(macro m () ((_ a) '(x . a))) (m (1 2))"
+        self.assertEqual(self.paths(text), [(1,), (1,), (1, 1, 0), (1, 1, 0), (1, 1, 1), (1, 1, 1), (1,)])
+        text = "(macro m () ((_ a) '(x . a))) (m ())"
+        self.assertEqual(self.paths(text), [(1,), (1,), (1,)])
+        text = "(macro m () ((_ a) '(x . a))) (m (1 . 2))"
+        self.assertEqual(self.paths(text), [(1,), (1,), (1, 1, 0), (1, 1, 0), (1, 1, 1)])
+        text = "(macro m () ((_ a) (n . a))) (macro n () ((_ b . c) c)) (m (1))"
+        self.assertEqual(self.paths(text), [(2,)])
+
     def test_uses_in_uses(self):
         text = "(macro m () ((_ a) (n a 1))) (macro n () ((_ a b) (add a b))) (let () (m 5))"
         self.assertEqual(self.paths(text), [(2, 2), (2, 2, 1), (2, 2)])

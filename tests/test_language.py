@@ -157,6 +157,12 @@ class Names(unittest.TestCase):
                 if isinstance(node, ast.Call) and isinstance(node.func, ast.Attribute):
                     self.assertIn(node.func.attr, own | METHODS, (file.name, node.lineno))
 
+    def test_attributes_are_assigned_through_local_names(self):
+        for file, tree in trees():
+            for node in ast.walk(tree):
+                if isinstance(node, ast.Attribute) and isinstance(node.ctx, ast.Store):
+                    self.assertIsInstance(node.value, ast.Name, (file.name, node.lineno))
+
     def test_names_of_methods_are_no_attributes(self):
         methods = set()
         attributes = set()
