@@ -1,27 +1,31 @@
 """The state of a run of the meaning, and how things are made in it."""
 
-from keptrest.frames import Link, words_of_link, words_of_thing
+from keptrest.frames import Link, linked, words_of_link, words_of_thing
 from keptrest.memory import Memory, reach_of
 from keptrest.placed import Places, cut_to
 
 
 class Course:
-    """A standing that is changed from step to step, with what the steps need to know."""
+    """A standing that is changed from step to step, with what the steps need to know.
+
+    To measure what is reached takes long. So most_words is kept, which is never less, and only where a thing
+    would find no room by it is it measured; at first the room counts as full.
+    """
 
     def __init__(self, program, limits, standing):
-        control, _, winds, store, inputs, output = standing
+        control, kont, winds, store, inputs, output = standing
         self.places = Places(program)
         self.limits = limits
         self.control = control
-        self.link = None
+        self.link = linked(kont)
         self.winds = winds
         self.memory = Memory(store)
         self.inputs = inputs
         self.output = list(output)
         self.turns = []
-        self.most_words = 0
+        self.most_words = limits[0]
         self.made = []
-        self.before = (control, None, winds)
+        self.before = (control, self.link, winds)
 
     def begin_step(self):
         """Keeps what the step begins with: what it makes is measured by that."""
@@ -31,7 +35,7 @@ class Course:
     def push(self, frame):
         self.link = Link(frame, self.link)
 
-    def pop(self):
+    def take_frame(self):
         """The newest frame, which is taken off."""
         frame = self.link.frame
         self.link = self.link.below

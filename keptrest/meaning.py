@@ -1,18 +1,10 @@
 """The meaning of programs: single steps, and runs."""
 
 from keptrest.course import Course
-from keptrest.frames import linked, unlinked, words_of_link
+from keptrest.frames import unlinked, words_of_link
 from keptrest.lifetimes import Lifetimes
 from keptrest.standings import start
 from keptrest.steps import take_step
-
-
-def course_at(program, limits, standing):
-    """The course that stands at a standing."""
-    course = Course(program, limits, standing)
-    course.link = linked(standing[1])
-    course.most_words = sum([course.memory.words_at(address) for address in range(len(standing[3]))])
-    return course
 
 
 def standing_of_course(course):
@@ -24,7 +16,7 @@ def standing_of_course(course):
 
 def step(program, limits, standing):
     """("on", STANDING) with the next standing, or ("ended", ENDING, OUTPUT)."""
-    course = course_at(program, limits, standing)
+    course = Course(program, limits, standing)
     ending = take_step(course)
     if ending is not None:
         return ("ended", ending, tuple(course.output))
@@ -33,7 +25,7 @@ def step(program, limits, standing):
 
 def run(program, inputs, limits, steps):
     """(ENDING, OUTPUT, COUNT, WEIGHT) of a run of at most so many steps."""
-    course = course_at(program, limits, start(program, inputs))
+    course = Course(program, limits, start(program, inputs))
     lives = Lifetimes(course)
     ending = None
     count = 0
@@ -49,7 +41,7 @@ def run(program, inputs, limits, steps):
 
 def standing_after(program, inputs, limits, steps):
     """The standing behind so many steps; None if the run has ended by then."""
-    course = course_at(program, limits, start(program, inputs))
+    course = Course(program, limits, start(program, inputs))
     for _ in range(steps):
         if take_step(course) is not None:
             return None
@@ -65,7 +57,7 @@ def is_body(course):
 
 def step_words(program, inputs, limits, steps):
     """The pairs (PLACE, words of KONT) of all standings at which the body of a function comes next."""
-    course = course_at(program, limits, start(program, inputs))
+    course = Course(program, limits, start(program, inputs))
     found = []
     for _ in range(steps):
         if take_step(course) is not None:

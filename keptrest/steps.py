@@ -204,7 +204,7 @@ def give_step(course, value):
     """A step from ("give", VALUE)."""
     if course.link is None:
         return ("end", value_text(course.memory.store, value))
-    frame = course.pop()
+    frame = course.take_frame()
     giving = GIVINGS[frame[0]]
     return giving(course, frame, value)
 

@@ -115,7 +115,8 @@ class Roads(unittest.TestCase):
 
     def test_no_road(self):
         for value, road, number in ((5, (1,), 0), (thing(0), (1, 1), 1), (thing(0), (2, 2, 1, 1), 2), (thing(2), (2,), 0),
-                                    (thing(3), (1, 2), 1), ((), (2, 2), 0), (thing(3), (2, 2, 2), 1)):
+                                    (thing(3), (1, 2), 1), ((), (2, 2), 0), (thing(3), (2, 2, 2), 1), (thing(0), (3,), 0),
+                                    (thing(0), (2, 0, 1), 1)):
             with self.assertRaises(NoRoad) as caught:
                 value_at(self.STORE, value, road)
             self.assertEqual(caught.exception.number, number)

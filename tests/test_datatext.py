@@ -55,7 +55,7 @@ class Data(unittest.TestCase):
         for value in (row(1), row(1, 2), row((), tail=1), row(1, tail=name("x")), row(True, tail=False), row(row(1))):
             self.assertIs(is_datum(value), True, value)
         wrong = (("list", (), ()), ("list", (), 1), row(1, tail=row(2)), ("list", [1], ()), ("list", (1,)), ("list", 1, ()),
-                 ("list", (1,), (), ()), row(None), row(1, tail=None), row(1, tail=10 ** 30), row("a"), row(1, tail="a"),
+                 ("list", (1,), (), ()), row(None), row(1, tail=None), row(1, tail=10 ** 30), row("a"), row(1, tail="a"), ("lists", (1,), ()), ("name", (1,), ()), (("list",), (1,), ()),
                  ("list", None, ()), ("list", "ab", ()), ("list", True, ()), row(row(1, 2, tail=row(3))))
         for value in wrong:
             self.assertIs(is_datum(value), False, value)
@@ -127,6 +127,10 @@ class Reading(unittest.TestCase):
             self.fault(";" + sign, 1, 2)
             self.fault(sign, 1, 1)
             self.fault("(" + sign + ")", 1, 2)
+
+    def test_all_that_may_stand_behind_a_semicolon(self):
+        signs = "".join(chr(code) for code in range(32, 127))
+        self.check(";" + signs + "\n5 ;" + signs + signs, 5)
 
     def test_a_bad_run_comes_ahead_of_a_bad_character_behind_it(self):
         self.fault("05\t", 1, 1)

@@ -368,6 +368,9 @@ class Bounds(Case):
             else:
                 self.fault(text, TooGreat, "data")
         self.right(head + "(m " + deep + ")")
+        for inner in ("5", "()", "x", "#no"):
+            self.right(grow + "(m " + "(" * 95 + inner + ")" * 95 + ")")
+            self.fault(grow + "(m " + "(" * 96 + inner + ")" * 96 + ")", TooGreat, "data")
 
     def test_data_when_they_are_given(self):
         """The use is counted and matched ahead; what it gives is not gone through."""

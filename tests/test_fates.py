@@ -36,6 +36,15 @@ class Fates(unittest.TestCase):
         self.check("(define (f x) f) f", ("define", BASE), ("f", binds(0)), ("x", binds(1)), ("f", refers(0)), ("f", refers(0)))
         self.check("(fn a a)", ("fn", BASE), ("a", binds(0)), ("a", refers(0)))
 
+    def test_numbers_are_those_of_the_core_program(self):
+        self.check("(let ((a (fn (x) x)) (b 1)) b)", ("let", BASE), ("a", binds(0)), ("fn", BASE), ("x", binds(1)),
+                   ("x", refers(1)), ("b", binds(2)), ("b", refers(2)))
+        self.check("(define a (fn (x) add)) (define b x2) (define x2 b)",
+                   ("define", BASE), ("a", binds(0)), ("fn", BASE), ("x", binds(3)), ("add", BASE), ("define", BASE),
+                   ("b", binds(1)), ("x2", refers(2)), ("define", BASE), ("x2", binds(2)), ("b", refers(1)))
+        self.check("(let ((p add) (q (fn (z) z))) q)", ("let", BASE), ("p", binds(0)), ("add", BASE), ("q", binds(3)),
+                   ("fn", BASE), ("z", binds(4)), ("z", refers(4)), ("q", refers(3)))
+
     def test_prim_words(self):
         self.check("(if add 1 2)", ("if", BASE), ("add", BASE))
         self.check("(fn (x) put-first)", ("fn", BASE), ("x", binds(0)), ("put-first", BASE))
@@ -149,6 +158,18 @@ class Lots(unittest.TestCase):
         text = "(macro m () ((_ a b) (fn (a) (fn (b) 1)))) (m x x)"
         data = read_data(text)
         self.assertEqual(lot_of(data, (1, 1)), ((1, 1),))
+
+    def test_lots_that_hang_together_by_others(self):
+        text = "(macro two () ((_ w b c) (pair (let ((w 1)) b) (let ((w 2)) c)))) (two y y y)"
+        data = read_data(text)
+        lot = ((1, 1), (1, 2), (1, 3))
+        for path in lot:
+            self.assertEqual(lot_of(data, path), lot)
+            self.assertIs(is_clean(data, path), True)
+
+    def test_clean_with_one_fate_alone(self):
+        self.assertIs(is_clean(read_data("(fn (a) 1)"), (0, 1, 0)), True)
+        self.assertIs(is_clean(read_data("(define a 1)"), (0, 1)), True)
 
     def test_not_clean(self):
         text = "(define y 1) (macro m () ((_ a) 'a)) (pair y (m y))"

@@ -431,6 +431,22 @@ class Runs(unittest.TestCase):
         self.assertEqual(run(boxed, (), (3, 0), 100)[0::3], (("end", "1"), 3))
         self.assertEqual(run(boxed, (), (2, 0), 100)[0], ("trap", "memory", ()))
 
+    def test_what_a_change_takes_away_was_reached_until_then(self):
+        row = prim("pair", C, prim("pair", C, prim("pair", C, C)))
+        put = ("let", 0, row, ("seq", prim("put second", var(0), C), C))
+        self.assertEqual(run(put, (), WIDE, 100)[0::3], (("end", "1"), 6))
+        boxed = ("let", 0, row, ("seq", ("set", 0, C), C))
+        self.assertEqual(run(boxed, (), WIDE, 100)[0::3], (("end", "1"), 7))
+        late = ("let", 0, prim("pair", C, prim("pair", C, C)), prim("put second", var(0), prim("pair", C, C)))
+        self.assertEqual(run(late, (), WIDE, 100)[0::3], (("end", "()"), 6))
+        then = ("let", 0, prim("pair", C, prim("pair", C, C)), ("let", 1, prim("put second", var(0), C), (
+            "seq", ("set", 1, C), var(0))))
+        self.assertEqual(run(then, (), WIDE, 100)[0::3], (("end", "(1 . 1)"), 4))
+
+    def test_the_last_standing_counts(self):
+        program = prim("pair", C, C)
+        self.assertEqual([run(program, (), WIDE, steps)[3] for steps in range(7)], [0, 0, 0, 0, 0, 2, 2])
+
     def test_tail_calls(self):
         """A loop finds KONT with the same words each time."""
         less = prim("less", var(1), C)
