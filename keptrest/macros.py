@@ -99,8 +99,8 @@ def given_by(rule, macro, found, known, path):
 def use_macro(macro, node, env, known, fates):
     """What a use that stands in an environment gives."""
 
-    def is_like(literal, word):
-        return known.meaning(literal.key, macro.env) == known.meaning(word.key, env)
+    def is_like(literal, other):
+        return known.meaning(literal.key, macro.env) == known.meaning(other.key, env)
 
     for rule in macro.rules:
         matcher = Matcher(macro.literals, is_like)

@@ -8,6 +8,7 @@ from keptrest.meanings import is_base
 from keptrest.nodes import Row, Word, node_of
 from keptrest.patterns import ANYTHING, REPEAT, rest_of
 
+
 class Step:
     """What a top form does in the end: a define's number, or None, with its tasks."""
 
