@@ -1,11 +1,17 @@
-"""Values and words of things and frames."""
+"""Values and words of things and frames, those of machines too.
+
+A machine's frame is (WORD, POINT or PLACE, its words ..). In the store of a linked machine there are the things
+("frame", (WORD, POINT or PLACE), its words .., NEXT) and ("caught", WINDS, LINK) for what is kept.
+"""
+
+PLACED_THINGS = ("wind", "frame")
 
 
 def thing_values(thing):
     """The values in a thing that is no kept one."""
     if thing[0] == "fn":
         return tuple([value for _, value in thing[2]])
-    return thing[2:] if thing[0] == "wind" else thing[1:]
+    return thing[2:] if thing[0] in PLACED_THINGS else thing[1:]
 
 
 def words_of_thing(thing):

@@ -1,51 +1,54 @@
-"""How long the things of a run are reached, from what its standings hold themselves.
+"""How long the things of a run are reached.
 
-To go through the whole store at each standing would take too long. What is reached no more never is
-again, so it is enough to know for each thing the last standing in which it is reached.
+To go through the whole store at each moment would take too long. What is reached no more never is again, so it is
+enough to know for each thing the last moment at which it is reached.
 """
 
 from keptrest.frames import thing_values
-from keptrest.memory import Reach, control_values
+from keptrest.memory import Reach
 
 
 class Lifetimes:
-    """The last standing at which each value and each frame was held by a standing itself."""
+    """The moments that are noted, and the last one at which each value and each frame was held by itself."""
 
-    def __init__(self, course):
-        self.course = course
+    def __init__(self, memory):
+        self.memory = memory
         self.sizes = []
         self.last_held = {}
         self.last_links = {}
-        self.note_standing()
+        memory.lost = []
 
     def note_values(self, values, now):
         for value in values:
             if type(value) is tuple and value != () and value[0] == "thing":
                 self.last_held[value[1]] = now
 
-    def note_standing(self):
-        """Notes what the standing holds, and what a change took away from a thing of the one before."""
-        course = self.course
-        memory = course.memory
+    def note_lost(self):
+        """Notes what changes took away from things since the last moment: it was reached at that one."""
+        memory = self.memory
+        for thing in memory.lost:
+            self.note_values(thing_values(thing), len(self.sizes) - 1)
+        memory.lost = []
+
+    def note_moment(self, values, link):
+        """Notes a further moment, at which these values and the frames of a link (None for none) are held."""
+        if self.memory.lost:
+            self.note_lost()
         now = len(self.sizes)
-        if memory.changed is not None:
-            self.note_values(thing_values(memory.changed), now - 1)
-            memory.changed = None
-        self.note_values(control_values(course.control), now)
-        self.note_values([course.winds], now)
-        if course.link is not None:
-            self.last_links[course.link] = now
-        self.sizes.append(len(memory.store))
+        self.note_values(values, now)
+        if link is not None:
+            self.last_links[link] = now
+        self.sizes.append(len(self.memory.store))
 
     def last_reached(self):
-        """The dict from addresses to the last standings in which they are reached."""
+        """The dict from addresses to the last moments at which they are reached."""
         held = [[] for _ in self.sizes]
         for address, now in self.last_held.items():
             held[now].append(("thing", address))
         links = [[] for _ in self.sizes]
         for link, now in self.last_links.items():
             links[now].append(link)
-        reach = Reach(self.course.memory)
+        reach = Reach(self.memory)
         for now in range(len(self.sizes) - 1, -1, -1):
             reach.mark = now
             for link in links[now]:
@@ -53,24 +56,27 @@ class Lifetimes:
             reach.add_values(held[now])
         return reach.found
 
-    def first_standings(self):
-        """For each address the standing behind the step that made it."""
+    def first_moments(self):
+        """For each address the first moment that was noted when it was there."""
         first = []
         for now, size in enumerate(self.sizes):
             first.extend([now] * (size - len(first)))
         return first
 
-    def greatest_weight(self):
-        """The greatest weight of a standing."""
-        first = self.first_standings()
+    def weights(self):
+        """The words of all things that are reached, for each moment."""
+        if self.sizes:
+            self.note_lost()
+        first = self.first_moments()
         rises = [0] * (len(self.sizes) + 1)
         for address, last in self.last_reached().items():
-            words = self.course.memory.words_at(address)
-            rises[first[address]] += words
-            rises[last + 1] -= words
+            if address < len(first) and first[address] <= last:
+                words = self.memory.words_at(address)
+                rises[first[address]] += words
+                rises[last + 1] -= words
+        weights = []
         weight = 0
-        greatest = 0
-        for rise in rises:
+        for rise in rises[:-1]:
             weight += rise
-            greatest = max(greatest, weight)
-        return greatest
+            weights.append(weight)
+        return weights

@@ -3,6 +3,7 @@
 from keptrest.course import Course
 from keptrest.frames import unlinked, words_of_link
 from keptrest.lifetimes import Lifetimes
+from keptrest.memory import control_values
 from keptrest.standings import start
 from keptrest.steps import take_step
 
@@ -23,20 +24,26 @@ def step(program, limits, standing):
     return ("on", standing_of_course(course))
 
 
+def note_standing(lives, course):
+    """Notes what the standing of a course holds itself."""
+    lives.note_moment([*control_values(course.control), course.winds], course.link)
+
+
 def run(program, inputs, limits, steps):
     """(ENDING, OUTPUT, COUNT, WEIGHT) of a run of at most so many steps."""
     course = Course(program, limits, start(program, inputs))
-    lives = Lifetimes(course)
+    lives = Lifetimes(course.memory)
+    note_standing(lives, course)
     ending = None
     count = 0
     while count < steps and ending is None:
         ending = take_step(course)
         count += 1
         if ending is None:
-            lives.note_standing()
+            note_standing(lives, course)
     if ending is None:
         ending = ("open",)
-    return (ending, tuple(course.output), count, lives.greatest_weight())
+    return (ending, tuple(course.output), count, max(lives.weights()))
 
 
 def standing_after(program, inputs, limits, steps):

@@ -9,7 +9,7 @@ class Memory:
     def __init__(self, store):
         self.store = list(store)
         self.links = {}
-        self.changed = None
+        self.lost = None
 
     def put_behind(self, thing):
         """The value of a thing that is put behind the store."""
@@ -22,8 +22,9 @@ class Memory:
         return self.put_behind(("kept", None, winds))
 
     def change(self, address, thing):
-        """Changes the thing at an address; what it was is kept for a while."""
-        self.changed = self.store[address]
+        """Changes the thing at an address; what it was is kept if somebody wants to know what was lost."""
+        if self.lost is not None:
+            self.lost.append(self.store[address])
         self.store[address] = thing
 
     def link_at(self, address):

@@ -1,6 +1,7 @@
 """The places of a program that is run: terms, free numbers, and what frames are cut to."""
 
-from keptrest.terms import free_in, parts_of, set_numbers
+from keptrest.spots import bits_of, free_mask, spots_in
+from keptrest.terms import parts_of, set_numbers
 
 
 class Places:
@@ -8,6 +9,7 @@ class Places:
 
     def __init__(self, program):
         self.terms = {(): program}
+        self.masks = {}
         self.frees = {}
         self.laters = {}
         self.boxed = {number: True for number in set_numbers(program)}
@@ -21,10 +23,20 @@ class Places:
             self.terms[place] = term
         return self.terms[place]
 
+    def note_within(self, place):
+        """Works out what is within the term at a place, all at once: term by term would take too long."""
+        spots = spots_in(self.term(place))
+        for spot in reversed(spots):
+            spot.unbound = free_mask(spot)
+            self.masks[place + spot.place] = spot.unbound
+            self.terms[place + spot.place] = spot.node
+
     def free(self, place):
         """The free numbers of the term at a place, as a dict."""
         if place not in self.frees:
-            self.frees[place] = {number: True for number in free_in(self.term(place))}
+            if place not in self.masks:
+                self.note_within(place)
+            self.frees[place] = {number: True for number in bits_of(self.masks[place])}
         return self.frees[place]
 
     def later(self, place, child):
