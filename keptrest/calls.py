@@ -11,12 +11,23 @@ def call(course, callee, values, place):
         kind = course.memory.store[callee[1]][0]
     if kind == "fn":
         return call_function(course, course.memory.store[callee[1]], values, place)
-    if kind != "kept":
+    if kind not in ("kept", "part"):
         return course.trap("no function", place)
     if len(values) != 1:
         return course.trap("count", place)
+    if kind == "part":
+        put_back(course, course.memory.store[callee[1]], values[0], place)
+        return None
     course.link = None
     return go_on(course, callee, values[0], place)
+
+
+def put_back(course, part, value, place):
+    """Pushes a mark and the frames of a part upon it, and gives a value to the newest one."""
+    course.push(("mark", place))
+    for frame in part[1]:
+        course.push(frame)
+    course.give(value)
 
 
 def has_count(term, many):

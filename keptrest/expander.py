@@ -1,69 +1,12 @@
 """Source programs to core programs, and where the words and nodes come from."""
 
 from keptrest.errors import NotThere, TooGreat
+from keptrest.heads import built, deepest, places_of_heads, plain_numbers
 from keptrest.nodes import node_of, words_in
 from keptrest.topforms import expand
 
 MOST_NODES = 400
 DEEPEST = 60
-PARTS = {"const": 0, "var": 0, "set": 1, "if": 3, "fn": 1, "let": 2, "seq": 2}
-
-
-def parts_wanted(head):
-    """How many parts a head has."""
-    if head[0] == "call":
-        return head[1] + 1
-    return head[2] if head[0] == "prim" else PARTS[head[0]]
-
-
-def places_of_heads(emitted):
-    """The places of emitted nodes."""
-    places = []
-    waiting = [()]
-    for head, _ in emitted:
-        place = waiting.pop()
-        places.append(place)
-        for k in range(parts_wanted(head) - 1, -1, -1):
-            waiting.append(place + (k,))
-    return places
-
-
-def plain_numbers(emitted):
-    """The dict that leads the numbers of an expansion to plain ones."""
-    moved = {}
-    for head, _ in emitted:
-        if head[0] == "let":
-            moved[head[1]] = len(moved)
-        elif head[0] == "fn":
-            for number in head[1]:
-                moved[number] = len(moved)
-            if head[2] is not None:
-                moved[head[2]] = len(moved)
-    return moved
-
-
-def term_of(head, parts, moved):
-    """The core term of a head with its parts and with plain numbers."""
-    kind = head[0]
-    if kind in ("var", "set", "let"):
-        return (kind, moved[head[1]], *parts)
-    if kind == "fn":
-        rest = None if head[2] is None else moved[head[2]]
-        return (kind, tuple([moved[number] for number in head[1]]), rest, *parts)
-    if kind == "call":
-        return (kind, parts[0], tuple(parts[1:]))
-    if kind == "prim":
-        return (kind, head[1], tuple(parts))
-    return head if kind == "const" else (kind, *parts)
-
-
-def built(emitted, moved):
-    """The core program of all emitted nodes."""
-    made = []
-    for head, _ in reversed(emitted):
-        parts = [made.pop() for _ in range(parts_wanted(head))]
-        made.append(term_of(head, parts, moved))
-    return made[0]
 
 
 def checked(program):
@@ -71,7 +14,7 @@ def checked(program):
     expansion = expand(program)
     if len(expansion.emitted) > MOST_NODES:
         raise TooGreat("nodes")
-    if max([len(place) for place in places_of_heads(expansion.emitted)]) > DEEPEST:
+    if deepest(expansion.emitted) > DEEPEST:
         raise TooGreat("depth")
     return expansion
 

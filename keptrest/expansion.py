@@ -24,7 +24,7 @@ class Fates:
 class Expansion:
     """Emits the nodes of a core program, in writing order, as pairs (HEAD, PATH).
 
-    A head is a node of a core term without its parts; a call and a prim tell how many there are.
+    A head is a node without its parts, as in heads.
     """
 
     def __init__(self):

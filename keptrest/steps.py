@@ -136,6 +136,11 @@ def give_entering(course, frame, _):
     return go_on(course, frame[2], frame[3], frame[1])
 
 
+def give_mark(course, _, value):
+    """A prompt has ended."""
+    course.give(value)
+
+
 GIVINGS = {
     "if": give_if,
     "let": give_let,
@@ -147,6 +152,7 @@ GIVINGS = {
     "ended": give_ended,
     "leaving": give_leaving,
     "entering": give_entering,
+    "mark": give_mark,
 }
 
 
@@ -179,7 +185,29 @@ def prim_more(course, _, place):
     course.give(course.inputs != ())
 
 
-OWN_PRIMS = {"keep": prim_keep, "wind": prim_wind, "show": prim_show, "ask": prim_ask, "more": prim_more}
+def prim_prompt(course, values, place):
+    course.push(("mark", place))
+    return call(course, values[0], (), place)
+
+
+def prim_take(course, values, place):
+    """The frames above the newest mark become a part, that is handed to the function; the mark stays."""
+    frames = []
+    while course.link.frame[0] != "mark":
+        frames.append(course.take_frame())
+    part = course.make(("part", tuple(frames[::-1])))
+    return call(course, values[0], (part,), place)
+
+
+OWN_PRIMS = {
+    "keep": prim_keep,
+    "wind": prim_wind,
+    "show": prim_show,
+    "ask": prim_ask,
+    "more": prim_more,
+    "prompt": prim_prompt,
+    "take": prim_take,
+}
 
 
 def prim(course, name, values, place):

@@ -20,7 +20,7 @@ BARRED_ATTRIBUTES = set(("items keys values pop update append clear extend inser
 METHODS = set(("append clear copy count endswith extend find get index insert isalnum isalpha isdigit islower isspace "
                "isupper items join keys ljust lower lstrip partition pop remove replace reverse rfind rjust rpartition "
                "rsplit rstrip setdefault split splitlines startswith strip update upper values zfill "
-               "bit_length").split())
+               "bit_length from_iterable").split())
 
 
 def trees():
@@ -97,6 +97,9 @@ class Imports(unittest.TestCase):
         for name, nodes in self.graph().items():
             for node in nodes:
                 self.assertIsInstance(node, ast.ImportFrom, name)
+                if node.module == "itertools":
+                    self.assertEqual([alias.name for alias in node.names], ["chain"])
+                    continue
                 package, module = node.module.split(".")
                 self.assertEqual((package, node.level), ("keptrest", 0), name)
                 for alias in node.names:
@@ -112,7 +115,7 @@ class Imports(unittest.TestCase):
                         self.assertIn(alias.name, used, (file.name, alias.name))
 
     def test_no_rings(self):
-        below = {name: {node.module.split(".")[1] for node in nodes} for name, nodes in self.graph().items()}
+        below = {name: {node.module.split(".")[1] for node in nodes if "." in node.module} for name, nodes in self.graph().items()}
         while below:
             free = [name for name, others in below.items() if not others & set(below)]
             self.assertTrue(free, sorted(below))
@@ -173,6 +176,48 @@ class Names(unittest.TestCase):
                 if isinstance(node, ast.Attribute) and isinstance(node.ctx, ast.Store):
                     attributes.add(node.attr)
         self.assertEqual(methods & attributes, set())
+
+
+def is_simple(node):
+    """True for what may stand behind a star in a call: names, attributes off a name, literals, lists of these."""
+    if isinstance(node, (ast.Name, ast.Constant)):
+        return True
+    if isinstance(node, ast.Attribute):
+        return isinstance(node.value, ast.Name)
+    return isinstance(node, (ast.List, ast.Tuple)) and all(is_simple(part) for part in node.elts)
+
+
+class Calls(unittest.TestCase):
+    def test_stars(self):
+        for file, tree in trees():
+            for node in ast.walk(tree):
+                if isinstance(node, ast.Call):
+                    stars = [k for k, part in enumerate(node.args) if isinstance(part, ast.Starred)]
+                    for part in node.args[stars[0]:] if stars else []:
+                        part = part.value if isinstance(part, ast.Starred) else part
+                        if not (isinstance(node.func, ast.Name) and node.func.id == "zip"):
+                            self.assertTrue(is_simple(part), (file.name, node.lineno))
+
+    def test_generators_and_views_are_iterated_at_once(self):
+        takers = {"list", "tuple", "dict", "sorted", "sum", "min", "max", "any", "all", "enumerate", "zip", "reversed", "len"}
+        for file, tree in trees():
+            above = {child: node for node in ast.walk(tree) for child in ast.iter_child_nodes(node)}
+            for node in ast.walk(tree):
+                view = isinstance(node, ast.Call) and (
+                    isinstance(node.func, ast.Name) and node.func.id in ("zip", "enumerate", "reversed", "range")
+                    or isinstance(node.func, ast.Attribute) and node.func.attr in ("items", "values", "keys"))
+                if view or isinstance(node, ast.GeneratorExp):
+                    taker = above[node]
+                    at_once = isinstance(taker, (ast.For, ast.comprehension)) or (
+                        isinstance(taker, ast.Call) and isinstance(taker.func, ast.Name) and taker.func.id in takers)
+                    self.assertTrue(at_once, (file.name, node.lineno))
+
+    def test_keywords(self):
+        for file, tree in trees():
+            for node in ast.walk(tree):
+                if isinstance(node, ast.Call):
+                    for word in node.keywords:
+                        self.assertIn((node.func.id, word.arg), (("sorted", "key"), ("max", "default")), (file.name, node.lineno))
 
 
 class Statements(unittest.TestCase):
