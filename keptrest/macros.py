@@ -2,7 +2,7 @@
 
 from keptrest.errors import BadRule, NoRule, TooGreat
 from keptrest.nodes import Fixed, Row, Word, is_nothing, words_in
-from keptrest.patterns import ANYTHING, REPEAT, Matcher, match_of, names_from, pattern_fault
+from keptrest.patterns import ANYTHING, REPEAT, Matcher, match_of, names_from, pattern_fault, whole_pattern
 from keptrest.templates import Putter, template_fault
 
 MOST_DATA = 5000
@@ -61,7 +61,7 @@ def read_macro(macro, parts, fates):
     for part in parts[1:]:
         rule = read_rule(part, macro.literals)
         note_rule(rule, macro.literals, fates)
-        macro.rules.append(rule)
+        macro.rules.append((whole_pattern(rule[0]), rule[1]))
 
 
 class UseMaker:
@@ -76,6 +76,9 @@ class UseMaker:
     def take_match(self, match):
         return match
 
+    def take_matches(self, matches):
+        return matches
+
     def make_leaf(self, node):
         if isinstance(node, Fixed):
             return Fixed(node.value, self.path)
@@ -87,10 +90,10 @@ class UseMaker:
         return self.path
 
 
-def given_by(rule, macro, found, known, path):
-    """What a use gives by a rule that matches it."""
+def given_by(template, macro, found, known, path):
+    """What a use gives by the template of a rule that matches it."""
     putter = Putter(UseMaker(known, macro.env, path))
-    given = putter.put(rule[1], found, False)
+    given = putter.put(template, found, False)
     if given.size > MOST_DATA or given.depth > DEEPEST_LIST:
         raise TooGreat("data")
     return given
@@ -102,11 +105,11 @@ def use_macro(macro, node, env, known, fates):
     def is_like(literal, other):
         return known.meaning(literal.key, macro.env) == known.meaning(other.key, env)
 
-    for rule in macro.rules:
+    for pattern, template in macro.rules:
         matcher = Matcher(macro.literals, is_like)
-        found = match_of(matcher, rule[0], node)
+        found = match_of(matcher, pattern, node)
         if found is not None:
             for word in matcher.liked:
                 fates.note(word, ("literal",))
-            return given_by(rule, macro, found, known, node.path)
+            return given_by(template, macro, found, known, node.path)
     raise NoRule(node.path)

@@ -24,14 +24,23 @@ class Fixed:
 
 
 class Row:
-    """A list of at least one item, with a tail that is no list."""
+    """A list of at least one item, with a tail that is no list.
+
+    The last two attributes keep how the list is cut as a pattern and as a template, once it has been used so.
+    """
 
     def __init__(self, parts, tail, path):
         self.parts = parts
         self.tail = tail
         self.path = path
-        self.size = 1 + sum([part.size for part in parts]) + (0 if is_nothing(tail) else tail.size)
-        self.depth = 1 + max([part.depth for part in parts])
+        self.size = 1 + len(parts) + (0 if is_nothing(tail) else 1)
+        self.depth = 1
+        rows = [part for part in parts if part.depth]
+        if rows:
+            self.size += sum([row.size for row in rows]) - len(rows)
+            self.depth += max([row.depth for row in rows])
+        self.pattern_parts = None
+        self.template_parts = None
 
 
 def is_nothing(node):
@@ -78,11 +87,12 @@ def row_of(parts, tail, path):
     """
     if not parts:
         return tail
-    whole = tuple(parts)
     if isinstance(tail, Row):
-        whole = (*parts, *tail.parts)
+        parts = (*parts, *tail.parts)
         tail = tail.tail
-    return Row(whole, Fixed((), path) if is_nothing(tail) else tail, path)
+    if is_nothing(tail) and tail.path != path:
+        tail = Fixed((), path)
+    return Row(tuple(parts), tail, path)
 
 
 def words_in(node):

@@ -1,7 +1,8 @@
 """Patterns: what is wrong in them, their names, and what they match."""
 
+from itertools import chain
+
 from keptrest.nodes import Fixed, Row, Word, is_spelled, parts_of_node, row_of
-from keptrest.sameness import same_data
 
 REPEAT = "&"
 ANYTHING = "_"
@@ -64,10 +65,16 @@ def pattern_fault(literals, pattern):
 
 def pattern_items(row):
     """The items of a right pattern's list ahead of, at and behind the repeated one, or None for that."""
-    for k, part in enumerate(row.parts):
+    if row.pattern_parts is None:
+        row.pattern_parts = cut_at_repeat(row.parts)
+    return row.pattern_parts
+
+
+def cut_at_repeat(parts):
+    for k, part in enumerate(parts):
         if k > 0 and is_repeat(part):
-            return row.parts[:k - 1], row.parts[k - 1], row.parts[k + 1:]
-    return row.parts, None, ()
+            return parts[:k - 1], parts[k - 1], parts[k + 1:]
+    return parts, None, ()
 
 
 def items_from(row, begin):
@@ -97,6 +104,11 @@ def names_from(literals, row, begin, depth):
     return found + names_in(literals, row.tail, depth)
 
 
+def is_same_fixed(pattern, node):
+    """True for a node that is the same constant as a pattern."""
+    return isinstance(node, Fixed) and type(node.value) is type(pattern.value) and node.value == pattern.value
+
+
 class Matcher:
     """Matches a pattern; is_like(LITERAL, WORD) tells whether a word is like a literal."""
 
@@ -107,23 +119,14 @@ class Matcher:
 
     def matches(self, pattern, node, found):
         """True if a pattern matches; what its names match is put into a dict."""
-        waiting = [(pattern, node)]
-        while waiting:
-            one, part = waiting.pop()
-            if not isinstance(one, Row):
-                if not self.matches_leaf(one, part, found):
-                    return False
-                continue
-            below = self.pairs_below(one, part, found)
-            if below is None:
-                return False
-            waiting.extend(below)
-        return True
+        if isinstance(pattern, Row):
+            return self.matches_row(pattern, node, found)
+        return self.matches_leaf(pattern, node, found)
 
     def matches_leaf(self, pattern, node, found):
         """True if a pattern that is no list matches."""
         if isinstance(pattern, Fixed):
-            return isinstance(node, Fixed) and same_data(pattern.value, node.value)
+            return is_same_fixed(pattern, node)
         if pattern.key in self.literals:
             return self.matches_literal(pattern, node)
         if pattern.letters != ANYTHING:
@@ -137,33 +140,83 @@ class Matcher:
         self.liked.append(node)
         return True
 
-    def pairs_below(self, pattern, node, found):
-        """The pairs (PATTERN, NODE) in a list that are still to be matched; None if it does not match."""
+    def matches_each(self, patterns, nodes, found):
+        """True if patterns match nodes, one for one, as far as both go."""
+        for pattern, node in zip(patterns, nodes):
+            if not self.matches(pattern, node, found):
+                return False
+        return True
+
+    def matches_row(self, pattern, node, found):
+        """True if a list of patterns matches; what takes longest, the repeated item, is looked at last."""
         ahead, repeated, behind = pattern_items(pattern)
         parts, tail = parts_of_node(node)
         first = len(ahead)
         last = len(parts) - len(behind)
-        if last < first:
-            return None
-        pairs = list(zip(ahead, parts[:first]))
+        if last < first or not self.matches_each(ahead, parts, found):
+            return False
         if repeated is None:
-            return pairs + [(pattern.tail, rest_of(node, first))]
-        if not self.matches_turns(repeated, parts[first:last], found):
-            return None
-        pairs.extend(list(zip(behind, parts[last:])))
-        return pairs + [(pattern.tail, tail)]
+            return self.matches_rest(pattern.tail, node, first, found)
+        if not self.matches_each(behind, parts[last:], found) or not self.matches(pattern.tail, tail, found):
+            return False
+        return self.matches_turns(repeated, parts[first:last], found)
 
-    def matches_turns(self, repeated, nodes, found):
-        """True if a repeated item matches each node; its names match tuples."""
-        turns = []
-        for node in nodes:
-            turn = {}
-            if not self.matches(repeated, node, turn):
+    def matches_rest(self, pattern, node, first, found):
+        """True if a tail, which is no list, matches what is left of a node behind its first items."""
+        if isinstance(pattern, Fixed) and len(parts_of_node(node)[0]) > first:
+            return False
+        return self.matches(pattern, rest_of(node, first), found)
+
+    def matches_turns(self, pattern, nodes, found):
+        """True if a pattern matches each node; its names match tuples, one member for each node."""
+        if isinstance(pattern, Row):
+            return self.matches_rows(pattern, nodes, found)
+        if is_pattern_name(pattern, self.literals):
+            found[pattern.key] = nodes
+            return True
+        return all([self.matches_leaf(pattern, node, found) for node in nodes])
+
+    def matches_rows(self, pattern, nodes, found):
+        """True if a list of patterns matches each node: first its first item with all nodes, and so on."""
+        ahead, repeated, behind = pattern_items(pattern)
+        cut = [parts_of_node(node) for node in nodes]
+        rows = [parts for parts, _ in cut]
+        least = len(ahead) + len(behind)
+        if any([len(parts) < least for parts in rows]):
+            return False
+        for k, part in enumerate((*ahead, *behind)):
+            at = k if k < len(ahead) else k - least
+            if not self.matches_turns(part, tuple([parts[at] for parts in rows]), found):
                 return False
-            turns.append(turn)
-        for name, _ in names_in(self.literals, repeated, 0):
-            found[name.key] = tuple([turn[name.key] for turn in turns])
+        if repeated is None and not isinstance(pattern.tail, Fixed):
+            return self.matches_turns(pattern.tail, tuple([rest_of(node, least) for node in nodes]), found)
+        if repeated is None and any([len(parts) > least for parts in rows]):
+            return False
+        if not self.matches_turns(pattern.tail, tuple([tail for _, tail in cut]), found):
+            return False
+        if repeated is None:
+            return True
+        return self.matches_inner(repeated, [parts[len(ahead):len(parts) - len(behind)] for parts in rows], found)
+
+    def matches_inner(self, repeated, rows, found):
+        """True if a repeated item matches each node of each row of nodes."""
+        inner = {}
+        if not self.matches_turns(repeated, tuple(list(chain.from_iterable(rows))), inner):
+            return False
+        lengths = [len(row) for row in rows]
+        for key, matches in inner.items():
+            found[key] = tuple(cut_in_rows(matches, lengths))
         return True
+
+
+def cut_in_rows(matches, lengths):
+    """A row of matches, cut into rows of these lengths."""
+    rows = []
+    at = 0
+    for length in lengths:
+        rows.append(matches[at:at + length])
+        at += length
+    return rows
 
 
 def rest_of(node, first):
@@ -172,9 +225,13 @@ def rest_of(node, first):
     return row_of(parts[first:], tail, node.path)
 
 
-def match_of(matcher, pattern, node):
-    """The dict of what the names of a whole PATTERN match; None if it does not match."""
-    found = {}
+def whole_pattern(pattern):
+    """A whole PATTERN as a list of patterns whose first item matches anything."""
     head = Word(ANYTHING, ANYTHING, (), ())
-    whole = Row((head, *pattern.parts[1:]), pattern.tail, pattern.path)
+    return Row((head, *pattern.parts[1:]), pattern.tail, pattern.path)
+
+
+def match_of(matcher, whole, node):
+    """The dict of what the names of a PATTERN, made whole, match; None if it does not match."""
+    found = {}
     return found if matcher.matches(whole, node, found) else None

@@ -1,7 +1,7 @@
 """Patterns and templates of plain data, whose literals match their own words alone."""
 
 from keptrest.nodes import datum_of, node_of
-from keptrest.patterns import Matcher, match_of, names_from, pattern_fault
+from keptrest.patterns import Matcher, match_of, names_from, pattern_fault, whole_pattern
 from keptrest.templates import Putter, template_fault
 
 
@@ -46,7 +46,7 @@ def matched(literals, pattern, datum):
     """None, or the pairs (W, MATCH) in the order of the names."""
     head = node_of(pattern, ())
     matcher = Matcher(keys_of(literals), is_same_word)
-    found = match_of(matcher, head, node_of(datum, ()))
+    found = match_of(matcher, whole_pattern(head), node_of(datum, ()))
     if found is None:
         return None
     return tuple([(name, plain_match(found[name], depth)) for name, depth in named(literals, head)])
@@ -57,6 +57,9 @@ class PlainMaker:
 
     def take_match(self, match):
         return node_of(match, ())
+
+    def take_matches(self, matches):
+        return [node_of(match, ()) for match in matches]
 
     def make_leaf(self, node):
         return node
