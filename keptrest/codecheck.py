@@ -1,6 +1,6 @@
 """The first fault of a code: its entries, the walks from its named points, and rings of idle leads."""
 
-from keptrest.entries import entry_of
+from keptrest.codemaps import entry_of
 from keptrest.quiet import behind_event, event_at, is_end, way_from
 from keptrest.rings import nodes_on_rings
 from keptrest.rowside import RowSide

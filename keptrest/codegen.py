@@ -5,8 +5,8 @@ may be done above it. Otherwise it is pushed ahead of its child, which then begi
 and ends with a row "back". So each node has its rows once. Sides of a test that go on alike join at a named point.
 """
 
+from keptrest.codemaps import entry_of
 from keptrest.coderows import LAST_SLOT
-from keptrest.entries import entry_of
 from keptrest.errors import TooMany
 from keptrest.moves import after_let, after_seq, after_test, entered, is_last, next_argument
 from keptrest.spots import Spots, bits_of, free_numbers_of, mask_of

@@ -1,4 +1,4 @@
-"""The maps and entries of codes: their form for a program."""
+"""The maps and entries of codes: their form for a program, and the entries that its fns must have."""
 
 from keptrest.coderows import is_point, is_slot
 from keptrest.datatext import is_constant_datum
@@ -121,3 +121,22 @@ def entry_has_form(entry, spot, maps):
     if len(picks) != len(wanted) or not all([is_pick(pick, own, params + (1 if rest else 0)) for pick in picks]):
         return False
     return maps[point] == ("eval", body.place, tuple(range(len(wanted))), ())
+
+
+def pick_of(number, params, own):
+    """Where a number of a fn's body comes from: params has its parameters and rest, own its captured numbers."""
+    if number in params:
+        return ("handed", params.index(number))
+    return ("own", own.index(number))
+
+
+def entry_of(spot, spots):
+    """The entry of the fn at a node, but for its POINT: (q, k, REST, BOXED, PICKS)."""
+    _, params, rest, _ = spot.node
+    names = params if rest is None else (*params, rest)
+    boxed = [spots.is_boxed(number) for number in names]
+    if rest is None:
+        boxed.append(False)
+    own = free_numbers_of(spot)
+    picks = [pick_of(number, names, own) for number in free_numbers_of(spot.below[0])]
+    return (spot.place, len(params), rest is not None, tuple(boxed), tuple(picks))

@@ -1,7 +1,7 @@
 """Images of standings."""
 
-from keptrest.imageform import has_image_form
-from keptrest.imagerules import kinds_are_right, names_are_right, places_are_right, winds_are_right
+from keptrest.imageform import (has_image_form, kinds_are_right, names_are_right, places_are_right,
+                                winds_are_right)
 from keptrest.numbering import image_and_order
 from keptrest.sameness import same_data
 from keptrest.spots import Spots

@@ -1,10 +1,10 @@
 """What the points of a code need, as masks of slots; VALUE has the bit behind the last slot."""
 
-from keptrest.coderows import LAST_SLOT, next_points, reads_value, slots_read
+from keptrest.coderows import next_points, reads_value, slots_read
 from keptrest.spots import bits_of, mask_of
 
-VALUE_BIT = 1 << (LAST_SLOT + 1)
-SLOT_BITS = VALUE_BIT - 1
+VALUE_BIT = 1 << 60
+SLOT_BITS = (1 << 60) - 1
 GIVING_ROWS = ("load", "from", "open", "fill", "prim")
 ENDING_ROWS = ("make", "back", "call", "known", "keep", "wind", "stop")
 

@@ -134,7 +134,8 @@ class Putter:
     def put_inner(self, part, columns):
         """What a repeated item gives in each turn, as lists; None if there are uneven names in it."""
         inner = {key: columns[key] for key in self.keys_in(part, columns)}
-        lengths = [length_of_all(turn) for turn in zip(*list(inner.values()))]
+        rows_of_names = list(inner.values())
+        lengths = [length_of_all(turn) for turn in zip(*rows_of_names)]
         if None in lengths:
             return None
         together = {key: list(chain.from_iterable(rows)) for key, rows in inner.items()}

@@ -195,8 +195,7 @@ class Calls(unittest.TestCase):
                     stars = [k for k, part in enumerate(node.args) if isinstance(part, ast.Starred)]
                     for part in node.args[stars[0]:] if stars else []:
                         part = part.value if isinstance(part, ast.Starred) else part
-                        if not (isinstance(node.func, ast.Name) and node.func.id == "zip"):
-                            self.assertTrue(is_simple(part), (file.name, node.lineno))
+                        self.assertTrue(is_simple(part), (file.name, node.lineno))
 
     def test_generators_and_views_are_iterated_at_once(self):
         takers = {"list", "tuple", "dict", "sorted", "sum", "min", "max", "any", "all", "enumerate", "zip", "reversed", "len"}
