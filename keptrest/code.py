@@ -1,7 +1,7 @@
 """Codes: which values have their form, their named points, and sure numbers."""
 
 from keptrest.codemaps import count_window, entry_has_form, is_map, is_place_of
-from keptrest.coderows import MOST_ROWS, is_point, is_row, next_points
+from keptrest.coderows import has_parts, is_row, next_points
 from keptrest.moves import frame_kind
 from keptrest.spots import Spots, free_numbers_of
 
@@ -102,16 +102,6 @@ def has_good_ways(rows, maps):
                 ways[point] = min(ways_from(rows[point], maps, ways), MOST_WAYS + 1)
     named = [row for row, chart in zip(rows, maps) if chart is not None]
     return all([ways_from(row, maps, ways) <= MOST_WAYS for row in named])
-
-
-def has_parts(value):
-    """True if a value is built of ROWS, MAPS, ENTRIES and START, these not looked at."""
-    if type(value) is not tuple or len(value) != 4:
-        return False
-    rows, maps, entries, begin = value
-    if type(rows) is not tuple or type(maps) is not tuple or type(entries) is not tuple:
-        return False
-    return 1 <= len(rows) <= MOST_ROWS and len(maps) == len(rows) and is_point(begin, len(rows))
 
 
 def has_entries(entries, maps, spots):

@@ -103,6 +103,16 @@ def is_row(row, many, is_place):
     return has_slots_wanted(row)
 
 
+def has_parts(value):
+    """True if a value is built of ROWS, MAPS, ENTRIES and START, what is in the first three not looked at."""
+    if type(value) is not tuple or len(value) != 4:
+        return False
+    rows, maps, entries, begin = value
+    if type(rows) is not tuple or type(maps) is not tuple or type(entries) is not tuple:
+        return False
+    return 1 <= len(rows) <= MOST_ROWS and len(maps) == len(rows) and is_point(begin, len(rows))
+
+
 def next_points(row):
     """Where a row continues: its NEXT, or its YES and NO."""
     if row[0] == "test":

@@ -4,7 +4,7 @@ from keptrest.collect import Pairing
 from keptrest.heap import reached_cells
 from keptrest.linkengine import first_link_engine, link_engine, link_state
 from keptrest.rightness import needed_roots, needs_at
-from keptrest.rowsteps import take_row
+from keptrest.rowsteps import OPEN, take_row, take_rows
 from keptrest.sameness import same_data
 
 
@@ -26,13 +26,7 @@ def linked_run(code, inputs, room, schedule, steps):
     """(ENDING, OUTPUT, COUNT, MAKINGS, WORDS) of a run of at most so many steps."""
     engine = first_link_engine(code, room, schedule, inputs)
     engine.measure()
-    ending = None
-    count = 0
-    while count < steps and ending is None:
-        ending = take_row(engine)
-        count += 1
-    if ending is None:
-        ending = ("open",)
+    ending, count = take_rows(engine, steps)
     words = [weight + size for weight, size in zip(engine.lives.weights(), engine.sizes)]
     return (ending, tuple(engine.output), count, engine.made, max(words, default=0))
 
@@ -40,10 +34,7 @@ def linked_run(code, inputs, room, schedule, steps):
 def linked_after(code, inputs, room, schedule, steps):
     """The state behind so many steps; None if the run has ended by then."""
     engine = first_link_engine(code, room, schedule, inputs)
-    for _ in range(steps):
-        if take_row(engine) is not None:
-            return None
-    return link_state(engine)
+    return link_state(engine) if take_rows(engine, steps)[0] == OPEN else None
 
 
 def unlinked(heap, link):

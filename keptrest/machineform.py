@@ -1,7 +1,7 @@
 """Machine codes: their form."""
 
 from keptrest.codemaps import are_truths, is_path
-from keptrest.coderows import MOST_ROWS, is_point, is_row
+from keptrest.coderows import has_parts, is_point, is_row
 from keptrest.sameness import is_integer
 
 MOST_PARAMS = 13
@@ -54,14 +54,10 @@ def fits_entries(row, entries):
 
 def has_machine_form(value):
     """True for a machine code."""
-    if type(value) is not tuple or len(value) != 4:
+    if not has_parts(value):
         return False
-    rows, maps, entries, begin = value
-    if type(rows) is not tuple or type(maps) is not tuple or type(entries) is not tuple:
-        return False
+    rows, _, entries, _ = value
     many = len(rows)
-    if not 1 <= many <= MOST_ROWS or len(maps) != many or not is_point(begin, many):
-        return False
     if not all([is_row(row, many, is_machine_place) for row in rows]):
         return False
     if not all([is_machine_entry(entry, many) for entry in entries]):

@@ -1,9 +1,9 @@
 """Macros: how they are read, and what a use of one gives."""
 
 from keptrest.errors import BadRule, NoRule, TooGreat
-from keptrest.nodes import Fixed, Row, Word, is_nothing, words_in
+from keptrest.nodes import UNKNOWN, Fixed, Row, Word, is_nothing, measure, row_of, words_in
 from keptrest.patterns import ANYTHING, REPEAT, Matcher, match_of, names_from, pattern_fault, whole_pattern
-from keptrest.templates import Putter, template_fault
+from keptrest.templates import Putter, template_fault, template_items
 
 MOST_DATA = 5000
 DEEPEST_LIST = 100
@@ -61,17 +61,51 @@ def read_macro(macro, parts, fates):
     for part in parts[1:]:
         rule = read_rule(part, macro.literals)
         note_rule(rule, macro.literals, fates)
-        macro.rules.append((whole_pattern(rule[0]), rule[1]))
+        macro.rules.append(Rule(*rule))
+
+
+def growth_of(template, depths):
+    """(OWN DATA, COPIES) of a template: it gives at most so many data beside so many times those of the use.
+
+    None if that cannot be told because lists are repeated.
+    """
+    waiting = [template]
+    while waiting:
+        node = waiting.pop()
+        if isinstance(node, Row):
+            if any([repeated and isinstance(part, Row) for part, repeated in template_items(node)]):
+                return None
+            waiting.extend(node.parts)
+    measure(template)
+    times = {}
+    for word in words_in(template):
+        if word.key in depths:
+            times[word.key] = times.get(word.key, 0) + 1
+    return (template.most, max(list(times.values()), default=0))
+
+
+class Rule:
+    """A rule of a macro as uses need it: its PATTERN as a list of patterns, its TEMPLATE, how the latter grows."""
+
+    def __init__(self, pattern, template, depths):
+        self.pattern = whole_pattern(pattern)
+        self.template = template
+        self.growth = growth_of(template, depths)
 
 
 class UseMaker:
-    """Makes what one use gives beside its matches: new aliases, all with the path of the use."""
+    """Makes what one use gives beside its matches: new aliases, all with the path of the use.
+
+    What it makes is not greater than most and deepest tell.
+    """
 
     def __init__(self, known, env, path):
         self.known = known
         self.env = env
         self.path = path
         self.own_aliases = {}
+        self.most = UNKNOWN
+        self.deepest = UNKNOWN
 
     def take_match(self, match):
         return match
@@ -86,16 +120,31 @@ class UseMaker:
             self.own_aliases[node.key] = self.known.new_alias(node.key, self.env)
         return Word(self.own_aliases[node.key], node.letters, self.path, node.spot)
 
+    def make_row(self, parts, tail, _):
+        return row_of(parts, tail, self.path, self)
+
     def path_of(self, _):
         return self.path
 
+    def bound_by(self, rule, use):
+        """Works out how great what a rule makes of a use may be, as far as that can be told ahead."""
+        if rule.growth is not None:
+            own, copies = rule.growth
+            self.most = own + copies * use.most
+            self.deepest = rule.template.deepest + use.deepest
 
-def given_by(template, macro, found, known, path):
-    """What a use gives by the template of a rule that matches it."""
-    putter = Putter(UseMaker(known, macro.env, path))
-    given = putter.put(template, found, False)
-    if given.size > MOST_DATA or given.depth > DEEPEST_LIST:
-        raise TooGreat("data")
+    def may_be_too_great(self):
+        return self.most > MOST_DATA or self.deepest > DEEPEST_LIST
+
+
+def given_by(rule, found, maker, use):
+    """What a use gives by a rule that matches it."""
+    maker.bound_by(rule, use)
+    given = Putter(maker).put(rule.template, found, False)
+    if maker.may_be_too_great():
+        measure(given)
+        if given.most > MOST_DATA or given.deepest > DEEPEST_LIST:
+            raise TooGreat("data")
     return given
 
 
@@ -105,11 +154,11 @@ def use_macro(macro, node, env, known, fates):
     def is_like(literal, other):
         return known.meaning(literal.key, macro.env) == known.meaning(other.key, env)
 
-    for pattern, template in macro.rules:
+    for rule in macro.rules:
         matcher = Matcher(macro.literals, is_like)
-        found = match_of(matcher, pattern, node)
+        found = match_of(matcher, rule.pattern, node)
         if found is not None:
             for word in matcher.liked:
                 fates.note(word, ("literal",))
-            return given_by(template, macro, found, known, node.path)
+            return given_by(rule, found, UseMaker(known, macro.env, node.path), node)
     raise NoRule(node.path)

@@ -5,7 +5,7 @@ from keptrest.frames import unlinked, words_of_link
 from keptrest.lifetimes import Lifetimes
 from keptrest.memory import control_values
 from keptrest.standings import start
-from keptrest.steps import take_step
+from keptrest.steps import take_step, take_steps
 
 
 def standing_of_course(course):
@@ -49,10 +49,7 @@ def run(program, inputs, limits, steps):
 def standing_after(program, inputs, limits, steps):
     """The standing behind so many steps; None if the run has ended by then."""
     course = Course(program, limits, start(program, inputs))
-    for _ in range(steps):
-        if take_step(course) is not None:
-            return None
-    return standing_of_course(course)
+    return standing_of_course(course) if take_steps(course, steps)[0] == ("open",) else None
 
 
 def is_body(course):

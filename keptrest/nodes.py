@@ -1,4 +1,10 @@
-"""Data with keys and paths, as rules and expansion use them."""
+"""Data with keys and paths, as rules and expansion use them.
+
+Each node tells that it has at most so many data and is at most so deep. To count a list again whenever it is made
+would take too long: so it is measured only where that may matter.
+"""
+
+UNKNOWN = 10 ** 9
 
 
 class Word:
@@ -9,8 +15,8 @@ class Word:
         self.letters = letters
         self.path = path
         self.spot = spot
-        self.size = 1
-        self.depth = 0
+        self.most = 1
+        self.deepest = 0
 
 
 class Fixed:
@@ -19,28 +25,45 @@ class Fixed:
     def __init__(self, value, path):
         self.value = value
         self.path = path
-        self.size = 1
-        self.depth = 0
+        self.most = 1
+        self.deepest = 0
 
 
 class Row:
-    """A list of at least one item, with a tail that is no list.
+    """A list of at least one item, with a tail that is no list, that is not greater than another thing.
 
     The last two attributes keep how the list is cut as a pattern and as a template, once it has been used so.
     """
 
-    def __init__(self, parts, tail, path):
+    def __init__(self, parts, tail, path, greater):
         self.parts = parts
         self.tail = tail
         self.path = path
-        self.size = 1 + len(parts) + (0 if is_nothing(tail) else 1)
-        self.depth = 1
-        rows = [part for part in parts if part.depth]
-        if rows:
-            self.size += sum([row.size for row in rows]) - len(rows)
-            self.depth += max([row.depth for row in rows])
+        self.most = greater.most
+        self.deepest = greater.deepest
+        self.is_measured = False
         self.pattern_parts = None
         self.template_parts = None
+
+
+class Unmeasured:
+    """What any list is not greater than."""
+
+    def __init__(self):
+        self.most = UNKNOWN
+        self.deepest = UNKNOWN
+
+
+def measure(node):
+    """Lets a node tell just how many data it has and how deep it is."""
+    if not isinstance(node, Row) or node.is_measured:
+        return
+    rows = [part for part in node.parts if part.deepest]
+    for row in rows:
+        measure(row)
+    node.most = 1 + len(node.parts) - len(rows) + sum([row.most for row in rows]) + (0 if is_nothing(node.tail) else 1)
+    node.deepest = 1 + max([row.deepest for row in rows], default=0)
+    node.is_measured = True
 
 
 def is_nothing(node):
@@ -60,7 +83,7 @@ def node_of(datum, path):
             return Word(datum[1], datum[1], path, path)
         parts = tuple([node_of(item, path + (k,)) for k, item in enumerate(datum[1])])
         tail_path = path if datum[2] == () else path + (len(parts),)
-        return Row(parts, node_of(datum[2], tail_path), path)
+        return Row(parts, node_of(datum[2], tail_path), path, Unmeasured())
     return Fixed(datum, path)
 
 
@@ -80,10 +103,11 @@ def parts_of_node(node):
     return (), node
 
 
-def row_of(parts, tail, path):
+def row_of(parts, tail, path, greater):
     """The list of these items that goes on with a tail, which may be a list itself.
 
-    A () at its end has the path of this list, whatever list it ended before.
+    A () at its end has the path of this list, whatever list it ended before. The list is not greater than another
+    thing.
     """
     if not parts:
         return tail
@@ -92,7 +116,7 @@ def row_of(parts, tail, path):
         tail = tail.tail
     if is_nothing(tail) and tail.path != path:
         tail = Fixed((), path)
-    return Row(tuple(parts), tail, path)
+    return Row(tuple(parts), tail, path, greater)
 
 
 def words_in(node):

@@ -153,19 +153,15 @@ class Matcher:
         parts, tail = parts_of_node(node)
         first = len(ahead)
         last = len(parts) - len(behind)
-        if last < first or not self.matches_each(ahead, parts, found):
+        if last < first or (repeated is None and last > first and isinstance(pattern.tail, Fixed)):
+            return False
+        if not self.matches_each(ahead, parts, found):
             return False
         if repeated is None:
-            return self.matches_rest(pattern.tail, node, first, found)
+            return self.matches(pattern.tail, rest_of(node, first), found)
         if not self.matches_each(behind, parts[last:], found) or not self.matches(pattern.tail, tail, found):
             return False
         return self.matches_turns(repeated, parts[first:last], found)
-
-    def matches_rest(self, pattern, node, first, found):
-        """True if a tail, which is no list, matches what is left of a node behind its first items."""
-        if isinstance(pattern, Fixed) and len(parts_of_node(node)[0]) > first:
-            return False
-        return self.matches(pattern, rest_of(node, first), found)
 
     def matches_turns(self, pattern, nodes, found):
         """True if a pattern matches each node; its names match tuples, one member for each node."""
@@ -222,13 +218,13 @@ def cut_in_rows(matches, lengths):
 def rest_of(node, first):
     """What is left of a node behind its first items; a list that is left has the path of the node."""
     parts, tail = parts_of_node(node)
-    return row_of(parts[first:], tail, node.path)
+    return row_of(parts[first:], tail, node.path, node)
 
 
 def whole_pattern(pattern):
     """A whole PATTERN as a list of patterns whose first item matches anything."""
     head = Word(ANYTHING, ANYTHING, (), ())
-    return Row((head, *pattern.parts[1:]), pattern.tail, pattern.path)
+    return Row((head, *pattern.parts[1:]), pattern.tail, pattern.path, pattern)
 
 
 def match_of(matcher, whole, node):

@@ -7,7 +7,7 @@ from keptrest.emitter import Emitter, call, function, sourced, var
 from keptrest.heads import head_of
 from keptrest.meaning import standing_of_course
 from keptrest.spots import CALLING_PRIMS, Spots
-from keptrest.steps import take_step
+from keptrest.steps import take_step, take_steps
 from keptrest.terms import all_binders, is_counted
 
 PROMPT_PRIMS = ("prompt", "take")
@@ -57,13 +57,7 @@ def prompt_step(program, standing):
 def prompt_run(program, inputs, steps):
     """(ENDING, OUTPUT, COUNT) of a run of at most so many steps."""
     course = PromptCourse(program, prompt_start(program, inputs))
-    ending = None
-    count = 0
-    while count < steps and ending is None:
-        ending = take_step(course)
-        count += 1
-    if ending is None:
-        ending = ("open",)
+    ending, count = take_steps(course, steps)
     return (ending, tuple(course.output), count)
 
 

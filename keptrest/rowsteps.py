@@ -2,6 +2,8 @@
 
 from keptrest.engine import BACK_ROW, call, call_upon, enter, go_on, trap
 
+OPEN = ("open",)
+
 
 def broken(engine):
     """The ending of a run that finds no box, function or wind where one must be."""
@@ -227,3 +229,12 @@ def take_row(engine):
     row = BACK_ROW if engine.point == "back" else engine.rows[engine.point]
     doing = ROWS[row[0]]
     return doing(engine, row)
+
+
+def take_rows(engine, steps):
+    """Does at most so many steps: the ending, and how many were done."""
+    for done in range(steps):
+        ending = take_row(engine)
+        if ending is not None:
+            return ending, done + 1
+    return OPEN, steps

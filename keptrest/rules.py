@@ -1,6 +1,6 @@
 """Patterns and templates of plain data, whose literals match their own words alone."""
 
-from keptrest.nodes import datum_of, node_of
+from keptrest.nodes import datum_of, node_of, row_of
 from keptrest.patterns import Matcher, match_of, names_from, pattern_fault, whole_pattern
 from keptrest.templates import Putter, template_fault
 
@@ -63,6 +63,9 @@ class PlainMaker:
 
     def make_leaf(self, node):
         return node
+
+    def make_row(self, parts, tail, row):
+        return row_of(parts, tail, row.path, row)
 
     def path_of(self, node):
         return node.path

@@ -249,3 +249,12 @@ def take_step(course):
     if ending is not None:
         del course.turns[many:]
     return ending
+
+
+def take_steps(course, steps):
+    """Does at most so many steps: the ending, ("open",) if there is none yet, and how many were done."""
+    for done in range(steps):
+        ending = take_step(course)
+        if ending is not None:
+            return ending, done + 1
+    return ("open",), steps

@@ -3,7 +3,7 @@
 from itertools import chain
 
 from keptrest.errors import Uneven
-from keptrest.nodes import Row, Word, is_nothing, row_of, words_in
+from keptrest.nodes import Row, Word, is_nothing, words_in
 from keptrest.patterns import cut_in_rows, is_repeat, items_from
 
 
@@ -89,7 +89,7 @@ class Putter:
             else:
                 made.extend(self.put_repeated(part, matches))
         tail = self.put(row.tail, matches, as_it_is)
-        return row_of(made, tail, self.maker.path_of(row))
+        return self.maker.make_row(made, tail, row)
 
     def put_repeated(self, part, matches):
         """What a repeated item gives, as a list."""
@@ -128,8 +128,7 @@ class Putter:
                 else:
                     parts.append(more)
         tails = self.put_turns(row.tail, columns, many, as_it_is)
-        path = self.maker.path_of(row)
-        return [row_of(parts, tail, path) for parts, tail in zip(made, tails)]
+        return [self.maker.make_row(parts, tail, row) for parts, tail in zip(made, tails)]
 
     def put_inner(self, part, columns):
         """What a repeated item gives in each turn, as lists; None if there are uneven names in it."""

@@ -1,7 +1,7 @@
 """Heaps in turns, and the machine that has such a heap."""
 
 from keptrest.heap import is_address
-from keptrest.rowsteps import take_row
+from keptrest.rowsteps import OPEN, take_row, take_rows
 from keptrest.turnengine import turn_engine, turn_state
 from keptrest.turnheap import TurnHeap, is_gone, is_header, is_old
 
@@ -116,20 +116,11 @@ def turns_step(code, room, deep, plan, state):
 def turns_run(code, inputs, room, deep, plan, steps):
     """(ENDING, OUTPUT, COUNT, MAKINGS) of a run of at most so many steps."""
     engine = turn_engine(code, room, deep, plan, turns_begin(code, inputs))
-    ending = None
-    count = 0
-    while count < steps and ending is None:
-        ending = take_row(engine)
-        count += 1
-    if ending is None:
-        ending = ("open",)
+    ending, count = take_rows(engine, steps)
     return (ending, tuple(engine.output), count, engine.made)
 
 
 def turns_after(code, inputs, room, deep, plan, steps):
     """The state behind so many steps; None if the run has ended by then."""
     engine = turn_engine(code, room, deep, plan, turns_begin(code, inputs))
-    for _ in range(steps):
-        if take_row(engine) is not None:
-            return None
-    return turn_state(engine)
+    return turn_state(engine) if take_rows(engine, steps)[0] == OPEN else None

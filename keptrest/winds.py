@@ -2,7 +2,7 @@
 
 from keptrest.course import Course
 from keptrest.standings import start
-from keptrest.steps import take_step
+from keptrest.steps import take_steps
 
 
 def winds_of(store, winds):
@@ -27,7 +27,5 @@ def winds_way(store, one, other):
 def wind_turns(program, inputs, limits, steps):
     """All comings ("in", ADDRESS) and goings ("out", ADDRESS) of so many steps of a run."""
     course = Course(program, limits, start(program, inputs))
-    for _ in range(steps):
-        if take_step(course) is not None:
-            break
+    take_steps(course, steps)
     return tuple(course.turns)

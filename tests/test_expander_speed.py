@@ -10,7 +10,7 @@ sys.path.insert(0, os.path.dirname(os.path.abspath(__file__)))
 import plain_expander
 
 from keptrest.datatext import read_data
-from keptrest.errors import NoRule, TooMany, Uneven
+from keptrest.errors import NoRule, TooGreat, TooMany, Uneven
 from keptrest.expander import expanded, places_back, uses_in, word_fates
 
 DOWN = "(macro down () ((_) 0) ((_ a r &) (down r &)))"
@@ -66,6 +66,42 @@ class FirstItems(unittest.TestCase):
         for first in ("_", "down", "other", "5", "#no", "()", "(a b)", "(_ &)", "a"):
             program = read_data(f"(macro down () (({first}) 0) (({first} a r &) (down r &))) (add (down) (down 1 2))")
             self.assertEqual(expanded(program, ()), ("prim", "add", (("const", 0), ("const", 0))))
+
+
+class Growing(unittest.TestCase):
+    """What uses give grows from use to use, until it is too great."""
+
+    def ends(self, rule, ticks, payload, fits):
+        row = " ".join(["t"] * ticks)
+        program = read_data(f"(macro g () ((_ () r &) 7) ((_ (a b &) r &) {rule})) (1 (g ({row}) {payload}))")
+        if fits:
+            self.assertEqual(expanded(program, ())[2], (("const", 7),))
+            self.assertEqual(uses_in(program), ticks + 1)
+            return
+        for ask in (uses_in, lambda data: expanded(data, ())):
+            with self.assertRaises(TooGreat) as caught:
+                ask(program)
+            self.assertEqual(caught.exception.what, "data")
+
+    def test_data(self):
+        """Use number j of k gives 3 + k + n + j data."""
+        rule = "(g (b &) r & x y)"
+        for ticks, fits in ((1, 4995), (20, 4957), (300, 4397)):
+            self.ends(rule, ticks, " ".join(["1"] * fits), True)
+            self.ends(rule, ticks, " ".join(["1"] * (fits + 1)), False)
+
+    def test_depth(self):
+        rule = "(g (b &) (r &))"
+        for ticks, fits in ((3, 96), (50, 49), (90, 9)):
+            self.ends(rule, ticks, "(" * fits + "1" + ")" * fits, True)
+            self.ends(rule, ticks, "(" * (fits + 1) + "1" + ")" * (fits + 1), False)
+
+    def test_copies(self):
+        """Each use doubles what it is given."""
+        rule = "(g (b &) (r & r &))"
+        for ticks in range(1, 9):
+            self.ends(rule, ticks, "1", True)
+        self.ends(rule, 12, "1", False)
 
 
 class Shapes(unittest.TestCase):
