@@ -1,9 +1,9 @@
 """Macros: how they are read, and what a use of one gives."""
 
 from keptrest.errors import BadRule, NoRule, TooGreat
-from keptrest.nodes import UNKNOWN, Fixed, Row, Word, is_nothing, measure, row_of, words_in
+from keptrest.nodes import UNKNOWN, Bound, Fixed, Row, Word, is_nothing, measure, row_of, words_in
 from keptrest.patterns import ANYTHING, REPEAT, Matcher, match_of, names_from, pattern_fault, whole_pattern
-from keptrest.templates import Putter, template_fault, template_items
+from keptrest.templates import Putter, template_fault
 
 MOST_DATA = 5000
 DEEPEST_LIST = 100
@@ -64,48 +64,33 @@ def read_macro(macro, parts, fates):
         macro.rules.append(Rule(*rule))
 
 
-def growth_of(template, depths):
-    """(OWN DATA, COPIES) of a template: it gives at most so many data beside so many times those of the use.
-
-    None if that cannot be told because lists are repeated.
-    """
-    waiting = [template]
-    while waiting:
-        node = waiting.pop()
-        if isinstance(node, Row):
-            if any([repeated and isinstance(part, Row) for part, repeated in template_items(node)]):
-                return None
-            waiting.extend(node.parts)
-    measure(template)
-    times = {}
-    for word in words_in(template):
-        if word.key in depths:
-            times[word.key] = times.get(word.key, 0) + 1
-    return (template.most, max(list(times.values()), default=0))
-
-
 class Rule:
-    """A rule of a macro as uses need it: its PATTERN as a list of patterns, its TEMPLATE, how the latter grows."""
+    """A rule of a macro as uses need it: its PATTERN as a list of patterns, its TEMPLATE, and how that grows.
+
+    copies tells how often the name that stands in TEMPLATE most often stands there.
+    """
 
     def __init__(self, pattern, template, depths):
+        times = {}
+        for word in words_in(template):
+            if word.key in depths:
+                times[word.key] = times.get(word.key, 0) + 1
         self.pattern = whole_pattern(pattern)
         self.template = template
-        self.growth = growth_of(template, depths)
+        self.deepest = measure(template).deepest
+        self.copies = max(list(times.values()), default=0)
 
 
 class UseMaker:
-    """Makes what one use gives beside its matches: new aliases, all with the path of the use.
-
-    What it makes is not greater than most and deepest tell.
-    """
+    """Makes what one use gives beside its matches, and counts it: new aliases, all with the path of the use."""
 
     def __init__(self, known, env, path):
         self.known = known
         self.env = env
         self.path = path
         self.own_aliases = {}
-        self.most = UNKNOWN
-        self.deepest = UNKNOWN
+        self.made = 0
+        self.bound = Bound(UNKNOWN, UNKNOWN)
 
     def take_match(self, match):
         return match
@@ -114,37 +99,41 @@ class UseMaker:
         return matches
 
     def make_leaf(self, node):
+        self.made += 1
         if isinstance(node, Fixed):
             return Fixed(node.value, self.path)
         if node.key not in self.own_aliases:
             self.own_aliases[node.key] = self.known.new_alias(node.key, self.env)
         return Word(self.own_aliases[node.key], node.letters, self.path, node.spot)
 
+    def make_leaves(self, node, many):
+        self.made += many
+        return [self.make_leaf(node)] * many
+
     def make_row(self, parts, tail, _):
-        return row_of(parts, tail, self.path, self)
+        self.made += 1
+        return row_of(parts, tail, self.path, self.bound)
 
     def path_of(self, _):
         return self.path
 
-    def bound_by(self, rule, use):
-        """Works out how great what a rule makes of a use may be, as far as that can be told ahead."""
-        if rule.growth is not None:
-            own, copies = rule.growth
-            self.most = own + copies * use.most
-            self.deepest = rule.template.deepest + use.deepest
+    def set_bound(self, rule, use):
+        """Tells all that was made of a use how great it is at most: each name matches unlike parts of the use."""
+        bound = self.bound
+        bound.most = self.made + rule.copies * use.bound.most
+        bound.deepest = rule.deepest + use.bound.deepest
 
-    def may_be_too_great(self):
-        return self.most > MOST_DATA or self.deepest > DEEPEST_LIST
+
+def is_too_great(bound):
+    return bound.most > MOST_DATA or bound.deepest > DEEPEST_LIST
 
 
 def given_by(rule, found, maker, use):
     """What a use gives by a rule that matches it."""
-    maker.bound_by(rule, use)
     given = Putter(maker).put(rule.template, found, False)
-    if maker.may_be_too_great():
-        measure(given)
-        if given.most > MOST_DATA or given.deepest > DEEPEST_LIST:
-            raise TooGreat("data")
+    maker.set_bound(rule, use)
+    if is_too_great(maker.bound) and is_too_great(measure(given)):
+        raise TooGreat("data")
     return given
 
 

@@ -1,7 +1,7 @@
 """Data with keys and paths, as rules and expansion use them.
 
-Each node tells that it has at most so many data and is at most so deep. To count a list again whenever it is made
-would take too long: so it is measured only where that may matter.
+To count a list again whenever it is made would take too long. So each list has a bound, that it is not greater
+than, and it is measured only where that may matter.
 """
 
 UNKNOWN = 10 ** 9
@@ -15,8 +15,7 @@ class Word:
         self.letters = letters
         self.path = path
         self.spot = spot
-        self.most = 1
-        self.deepest = 0
+        self.is_row = False
 
 
 class Fixed:
@@ -25,45 +24,49 @@ class Fixed:
     def __init__(self, value, path):
         self.value = value
         self.path = path
-        self.most = 1
-        self.deepest = 0
+        self.is_row = False
+
+
+class Bound:
+    """How many data lists have at most, and how deep they are at most."""
+
+    def __init__(self, most, deepest):
+        self.most = most
+        self.deepest = deepest
 
 
 class Row:
-    """A list of at least one item, with a tail that is no list, that is not greater than another thing.
+    """A list of at least one item, with a tail that is no list.
 
     The last two attributes keep how the list is cut as a pattern and as a template, once it has been used so.
     """
 
-    def __init__(self, parts, tail, path, greater):
+    def __init__(self, parts, tail, path, bound):
         self.parts = parts
         self.tail = tail
         self.path = path
-        self.most = greater.most
-        self.deepest = greater.deepest
+        self.bound = bound
+        self.is_row = True
         self.is_measured = False
         self.pattern_parts = None
         self.template_parts = None
 
 
-class Unmeasured:
-    """What any list is not greater than."""
-
-    def __init__(self):
-        self.most = UNKNOWN
-        self.deepest = UNKNOWN
-
-
 def measure(node):
-    """Lets a node tell just how many data it has and how deep it is."""
-    if not isinstance(node, Row) or node.is_measured:
-        return
-    rows = [part for part in node.parts if part.deepest]
-    for row in rows:
-        measure(row)
-    node.most = 1 + len(node.parts) - len(rows) + sum([row.most for row in rows]) + (0 if is_nothing(node.tail) else 1)
-    node.deepest = 1 + max([row.deepest for row in rows], default=0)
-    node.is_measured = True
+    """Gives a list, and all in it, a bound that tells just how great it is; gives the bound of any node."""
+    if not node.is_row:
+        return Bound(1, 0)
+    if not node.is_measured:
+        most = 1 + len(node.parts) + (0 if is_nothing(node.tail) else 1)
+        deepest = 0
+        for part in node.parts:
+            if part.is_row:
+                bound = measure(part)
+                most += bound.most - 1
+                deepest = max(deepest, bound.deepest)
+        node.bound = Bound(most, deepest + 1)
+        node.is_measured = True
+    return node.bound
 
 
 def is_nothing(node):
@@ -83,7 +86,7 @@ def node_of(datum, path):
             return Word(datum[1], datum[1], path, path)
         parts = tuple([node_of(item, path + (k,)) for k, item in enumerate(datum[1])])
         tail_path = path if datum[2] == () else path + (len(parts),)
-        return Row(parts, node_of(datum[2], tail_path), path, Unmeasured())
+        return Row(parts, node_of(datum[2], tail_path), path, Bound(UNKNOWN, UNKNOWN))
     return Fixed(datum, path)
 
 
@@ -103,20 +106,19 @@ def parts_of_node(node):
     return (), node
 
 
-def row_of(parts, tail, path, greater):
+def row_of(parts, tail, path, bound):
     """The list of these items that goes on with a tail, which may be a list itself.
 
-    A () at its end has the path of this list, whatever list it ended before. The list is not greater than another
-    thing.
+    A () at its end has the path of this list, whatever list it ended before.
     """
     if not parts:
         return tail
-    if isinstance(tail, Row):
+    if tail.is_row:
         parts = (*parts, *tail.parts)
         tail = tail.tail
-    if is_nothing(tail) and tail.path != path:
+    if tail.path != path and is_nothing(tail):
         tail = Fixed((), path)
-    return Row(tuple(parts), tail, path, greater)
+    return Row(tuple(parts), tail, path, bound)
 
 
 def words_in(node):

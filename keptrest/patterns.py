@@ -217,14 +217,15 @@ def cut_in_rows(matches, lengths):
 
 def rest_of(node, first):
     """What is left of a node behind its first items; a list that is left has the path of the node."""
-    parts, tail = parts_of_node(node)
-    return row_of(parts[first:], tail, node.path, node)
+    if not node.is_row:
+        return node
+    return row_of(node.parts[first:], node.tail, node.path, node.bound)
 
 
 def whole_pattern(pattern):
     """A whole PATTERN as a list of patterns whose first item matches anything."""
     head = Word(ANYTHING, ANYTHING, (), ())
-    return Row((head, *pattern.parts[1:]), pattern.tail, pattern.path, pattern)
+    return Row((head, *pattern.parts[1:]), pattern.tail, pattern.path, pattern.bound)
 
 
 def match_of(matcher, whole, node):

@@ -64,8 +64,11 @@ class PlainMaker:
     def make_leaf(self, node):
         return node
 
+    def make_leaves(self, node, many):
+        return [node] * many
+
     def make_row(self, parts, tail, row):
-        return row_of(parts, tail, row.path, row)
+        return row_of(parts, tail, row.path, row.bound)
 
     def path_of(self, node):
         return node.path

@@ -110,7 +110,7 @@ class Putter:
         if isinstance(node, Word) and node.key in columns:
             return self.maker.take_matches(columns[node.key])
         if not isinstance(node, Row):
-            return [self.maker.make_leaf(node)] * many
+            return self.maker.make_leaves(node, many)
         if not as_it_is and is_as_it_is(node):
             return self.put_turns(node.parts[1], columns, many, True)
         return self.put_rows(node, columns, many, as_it_is)
