@@ -1,6 +1,7 @@
 """Codes: which values have their form, their named points, and sure numbers."""
 
 from keptrest.codemaps import count_window, entry_has_form, is_map, is_place_of
+from keptrest.codepoints import unnamed_behind
 from keptrest.coderows import has_parts, is_row, next_points
 from keptrest.moves import frame_kind
 from keptrest.spots import Spots, free_numbers_of
@@ -74,11 +75,6 @@ def ways_from(row, maps, ways):
     if points == ():
         return 1
     return sum([1 if maps[point] is not None else ways[point] for point in points])
-
-
-def unnamed_behind(row, maps):
-    """The points without names to which a row leads at once."""
-    return [point for point in next_points(row) if maps[point] is None]
 
 
 def has_good_ways(rows, maps):

@@ -20,7 +20,7 @@ def is_row(value):
 
 def is_head_of_fn(term):
     """True if PARAMS and REST of a fn are right."""
-    if not is_row(term[1]) or any(not is_number(number) for number in term[1]):
+    if not is_row(term[1]) or any([not is_number(number) for number in term[1]]):
         return False
     return term[2] is None or is_number(term[2])
 

@@ -105,7 +105,7 @@ def is_clean(program, path):
     for other, fates in fated:
         if other in lot:
             found.extend(fates)
-    return len(found) > 0 and all(fate[0] in ("binds", "refers") for fate in found)
+    return len(found) > 0 and all([fate[0] in ("binds", "refers") for fate in found])
 
 
 def with_word(datum, path, paths, word):

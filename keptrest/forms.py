@@ -54,7 +54,7 @@ def params_of(node, path):
     if is_nothing(node):
         return (), None
     need(isinstance(node, Row), path)
-    need(all(isinstance(part, Word) for part in node.parts), path)
+    need(all([isinstance(part, Word) for part in node.parts]), path)
     need(isinstance(node.tail, Word) or is_nothing(node.tail), path)
     need(len(node.parts) <= MOST_PARAMS, path)
     return node.parts, node.tail if isinstance(node.tail, Word) else None

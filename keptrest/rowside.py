@@ -65,14 +65,22 @@ class RowSide:
                 return True
         return False
 
+    def is_at_name(self):
+        """True if the side has come to a named point."""
+        return self.has_moved and self.maps[self.point] is not None
+
+    def take_row(self):
+        """Does the row at the point: None if it is quiet, otherwise what advance tells of it."""
+        row = self.rows[self.point]
+        if self.lacks(row):
+            return ("empty",)
+        doing = DOINGS[row[0]]
+        return doing(self, row)
+
     def advance(self):
         """Goes on to ("empty",), ("named",), ("event", HEAD, WORDS, ROOTS) or ("end", HEAD, WORDS)."""
-        while not (self.has_moved and self.maps[self.point] is not None):
-            row = self.rows[self.point]
-            if self.lacks(row):
-                return ("empty",)
-            doing = DOINGS[row[0]]
-            told = doing(self, row)
+        while not self.is_at_name():
+            told = self.take_row()
             if told is not None:
                 return told
         return ("named",)

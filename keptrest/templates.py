@@ -14,7 +14,7 @@ def is_as_it_is(node):
 
 def has_name(node, names):
     """True if a pattern name stands in a template."""
-    return any(word.key in names for word in words_in(node))
+    return any([word.key in names for word in words_in(node)])
 
 
 class TemplateCheck:

@@ -84,7 +84,7 @@ def all_binders(term):
 
 def is_counted(numbers):
     """True if the numbers are 0, 1, 2, .."""
-    return all(number == k for k, number in enumerate(numbers))
+    return all([number == k for k, number in enumerate(numbers)])
 
 
 def child_tasks(term):

@@ -21,7 +21,7 @@ def is_good_word(text):
     """True if the string is a word."""
     if not 1 <= len(text) <= LONGEST_WORD:
         return False
-    if any(sign not in WORD_SIGNS for sign in text):
+    if any([sign not in WORD_SIGNS for sign in text]):
         return False
     if is_digit(text[0]):
         return False
@@ -30,7 +30,7 @@ def is_good_word(text):
 
 def are_digits(text):
     """True for at least one digit, without a leading zero unless it is 0 alone."""
-    if text == "" or any(not is_digit(sign) for sign in text):
+    if text == "" or any([not is_digit(sign) for sign in text]):
         return False
     return text[0] != "0" or text == "0"
 

@@ -186,6 +186,7 @@ class Walk:
         self.rows, self.maps = code[:2]
         self.start = point
         self.leads = leads
+        self.visits = set()
 
     def source(self, source, window):
         if type(source) is int:
@@ -239,6 +240,7 @@ class Walk:
         while True:
             row = self.rows[point]
             word = row[0]
+            self.visits.add((point, "come to"))
 
             def read(slots):
                 return [self.need(window.get(i)) for i in slots]
@@ -263,6 +265,7 @@ class Walk:
                     event = ("stop", told[1], row[2]), [], None
                 else:
                     value = const(told[1])
+                    self.visits.add((point, "idle"))
             elif word == "make":
                 words = read(row[3])
                 live = read(row[4])
@@ -270,6 +273,7 @@ class Walk:
                 event = ("make", row[1], row[2]), words, roots
             elif word == "test":
                 if is_const(self.need(value)):
+                    self.visits.add((point, "idle"))
                     point = row[2] if value[2] is False else row[1]
                 else:
                     event = ("test",), [value], None
@@ -282,6 +286,8 @@ class Walk:
                 event = ("back",), [self.need(value)], None
             elif word == "call":
                 event = (*self.told.call_end(row[1], read(row[2]), sure), None)
+                if event[0][0] != "call":
+                    self.visits.add((point, "knowable"))
             elif word == "known":
                 event = row[:3], read(row[3]), None
             elif word == "keep":
