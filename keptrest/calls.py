@@ -1,6 +1,5 @@
 """Calls, and going on to kept continuations. Each gives None, or the ending of the run."""
 
-from keptrest.frames import words_of_link
 from keptrest.placed import with_pairs
 
 
@@ -40,38 +39,38 @@ def call_function(course, thing, values, place):
     term = course.places.term(thing[1])
     if not has_count(term, len(values)):
         return course.trap("count", place)
-    if words_of_link(course.link) > course.limits[1]:
+    if course.is_deep(place):
         return course.trap("deep", place)
     many = len(term[1])
     pairs = list(zip(term[1], values[:many]))
     if term[2] is not None:
-        rest = made_list(course, values[many:])
+        rest = made_list(course, values[many:], place)
         if rest is None:
             return course.trap("memory", place)
         pairs.append((term[2], rest))
-    bound = boxed_pairs(course, pairs)
+    bound = boxed_pairs(course, pairs, place)
     if bound is None:
         return course.trap("memory", place)
     course.evaluate(thing[1] + (0,), with_pairs(thing[2], bound))
     return None
 
 
-def made_list(course, values):
-    """A list of values that is made, the last pair first; None if there is no room."""
+def made_list(course, values, place):
+    """A list of values that is made at a place, the last pair first; None if there is no room."""
     rest = ()
     for value in values[::-1]:
-        rest = course.make(("pair", value, rest))
+        rest = course.make(("pair", value, rest), place)
         if rest is None:
             return None
     return rest
 
 
-def boxed_pairs(course, pairs):
-    """The pairs of an environment, boxed numbers with boxes that are made; None if there is no room."""
+def boxed_pairs(course, pairs, place):
+    """The pairs of an environment, boxed numbers with boxes made at a place; None if there is no room."""
     bound = []
     for number, value in pairs:
         if number in course.places.boxed:
-            value = course.make(("box", value))
+            value = course.make(("box", value), place)
             if value is None:
                 return None
         bound.append((number, value))

@@ -1,7 +1,7 @@
 """Machines whose cells are things of a store, which never move; the heap is a list of their addresses."""
 
 from keptrest.engine import Engine
-from keptrest.frames import Link, words_of_link, words_of_thing
+from keptrest.frames import Link, unlinked, words_of_link, words_of_thing
 from keptrest.kinds import is_thing
 from keptrest.lifetimes import Lifetimes
 from keptrest.memory import Memory, Reach
@@ -149,11 +149,19 @@ class StackEngine(CellEngine):
     def stack_length(self):
         return words_of_link(self.link)
 
+    def frames_of_link(self, link):
+        """The frames of a link, the oldest first."""
+        return unlinked(link)
+
+    def kept_link(self, word):
+        """The link of what is kept."""
+        return self.memory.link_at(word[1])
+
     def clear_stack(self):
         self.link = None
 
     def restore_stack(self, kept):
-        self.link = self.memory.link_at(kept[1])
+        self.link = self.kept_link(kept)
 
     def make_kept(self, place):
         """The address of a cell of WINDS and the stack; None if there is no room for it."""

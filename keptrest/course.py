@@ -52,8 +52,12 @@ class Course:
         """The ending of a run that is trapped."""
         return ("trap", word, place)
 
-    def has_room(self, words):
-        """True if a thing of so many words may be made now."""
+    def is_deep(self, _):
+        """True if a function may not be called at a place, as there are too many words of frames."""
+        return words_of_link(self.link) > self.limits[1]
+
+    def has_room(self, words, _):
+        """True if a thing of so many words may be made now at a place."""
         room = self.limits[0]
         if self.most_words + words > room:
             reach = reach_of(self.memory, *self.before)
@@ -65,19 +69,19 @@ class Course:
         self.most_words += words
         self.made.append(value)
 
-    def make(self, thing):
-        """The value of a thing that is made; None if there is no room for it."""
+    def make(self, thing, place):
+        """The value of a thing that is made at a place; None if there is no room for it."""
         words = words_of_thing(thing)
-        if not self.has_room(words):
+        if not self.has_room(words, place):
             return None
         value = self.memory.put_behind(thing)
         self.keep_made(value, words)
         return value
 
-    def make_kept(self):
+    def make_kept(self, place):
         """The value of a kept thing of the frames and winds as they are; None if there is no room."""
         words = 2 + words_of_link(self.link)
-        if not self.has_room(words):
+        if not self.has_room(words, place):
             return None
         value = self.memory.put_kept(self.link, self.winds)
         self.keep_made(value, words)

@@ -56,17 +56,28 @@ def cell_program():
     return program_of(CELL)
 
 
-def tree_inputs(tree):
-    """The inputs of a tree."""
+def parts_in(tree):
+    """A tree and all trees in it, each ahead of those in it, from left to right."""
     found = []
     waiting = [tree]
     while waiting:
         part = waiting.pop()
-        if part[0] == "leaf":
-            found.extend([0, part[1]])
-        else:
-            found.append(1)
+        found.append(part)
+        if part[0] == "two":
             waiting.extend([part[2], part[1]])
+    return found
+
+
+def leaves_in(tree):
+    """The leaves of a tree, from left to right."""
+    return [part[1] for part in parts_in(tree) if part[0] == "leaf"]
+
+
+def tree_inputs(tree):
+    """The inputs of a tree."""
+    found = []
+    for part in parts_in(tree):
+        found.extend([0, part[1]] if part[0] == "leaf" else [1])
     return tuple(found)
 
 
@@ -96,19 +107,6 @@ def cell_inputs(steps):
         found.append(("name", step[0]))
         found.extend(list(step[1:]))
     return tuple(found)
-
-
-def leaves_in(tree):
-    """The leaves of a tree, from left to right."""
-    found = []
-    waiting = [tree]
-    while waiting:
-        part = waiting.pop()
-        if part[0] == "leaf":
-            found.append(part[1])
-        else:
-            waiting.extend([part[2], part[1]])
-    return found
 
 
 def leaves_told(tree):

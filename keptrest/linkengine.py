@@ -56,9 +56,25 @@ class LinkEngine(CellEngine):
         """The newest frame, which is taken off; None if there is none."""
         if self.link == ():
             return None
-        thing = self.memory.store[self.link[1]]
-        self.link = thing[-1]
-        return (*thing[1], *thing[2:-1])
+        frame, self.link = self.frame_at(self.link)
+        return frame
+
+    def frame_at(self, link):
+        """The frame whose cell is at an address, and its NEXT."""
+        thing = self.memory.store[link[1]]
+        return (*thing[1], *thing[2:-1]), thing[-1]
+
+    def frames_of_link(self, link):
+        """The frames from an address on, the oldest first."""
+        frames = []
+        while link != ():
+            frame, link = self.frame_at(link)
+            frames.append(frame)
+        return tuple(frames[::-1])
+
+    def kept_link(self, word):
+        """The address of the newest frame of what is kept."""
+        return self.memory.store[word[1]][2]
 
     def stack_length(self):
         """DEEP does not count here."""
@@ -68,7 +84,7 @@ class LinkEngine(CellEngine):
         self.link = ()
 
     def restore_stack(self, kept):
-        self.link = self.memory.store[kept[1]][2]
+        self.link = self.kept_link(kept)
 
     def make_kept(self, place):
         return self.put_cell(("caught", self.winds, self.link), place)

@@ -1,10 +1,9 @@
 """States of the machine that match standings of the meaning."""
 
 from keptrest.course import Course
-from keptrest.frames import unlinked
 from keptrest.heap import cells_of
 from keptrest.images import standing_of
-from keptrest.numbering import image_and_order, numbered_image
+from keptrest.numbering import course_image, image_and_order
 from keptrest.rowsteps import take_row
 from keptrest.sameness import same_data
 from keptrest.stackstates import first_engine, stack_engine
@@ -40,19 +39,6 @@ def match_map(program, code, standing, state):
     if not same_data((image, standing[5]), (told[0], state[7])):
         return None
     return tuple(sorted(list(zip(order, told[1])), key=lambda pair: pair[0]))
-
-
-def course_image(course):
-    """The image of the standing at which a course stands."""
-    memory = course.memory
-
-    def thing_at(address):
-        thing = memory.store[address]
-        if thing[0] == "kept":
-            return ("kept", unlinked(memory.link_at(address)), thing[2])
-        return thing
-
-    return numbered_image(course.control, unlinked(course.link), course.winds, course.inputs, thing_at)[0]
 
 
 class Follower:

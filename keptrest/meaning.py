@@ -2,8 +2,7 @@
 
 from keptrest.course import Course
 from keptrest.frames import unlinked, words_of_link
-from keptrest.lifetimes import Lifetimes
-from keptrest.memory import control_values
+from keptrest.runner import first_runner
 from keptrest.standings import start
 from keptrest.steps import take_step, take_steps
 
@@ -24,26 +23,11 @@ def step(program, limits, standing):
     return ("on", standing_of_course(course))
 
 
-def note_standing(lives, course):
-    """Notes what the standing of a course holds itself."""
-    lives.note_moment([*control_values(course.control), course.winds], course.link)
-
-
 def run(program, inputs, limits, steps):
     """(ENDING, OUTPUT, COUNT, WEIGHT) of a run of at most so many steps."""
-    course = Course(program, limits, start(program, inputs))
-    lives = Lifetimes(course.memory)
-    note_standing(lives, course)
-    ending = None
-    count = 0
-    while count < steps and ending is None:
-        ending = take_step(course)
-        count += 1
-        if ending is None:
-            note_standing(lives, course)
-    if ending is None:
-        ending = ("open",)
-    return (ending, tuple(course.output), count, max(lives.weights()))
+    runner = first_runner(program, inputs, limits)
+    runner.take_all(steps)
+    return runner.told()
 
 
 def standing_after(program, inputs, limits, steps):

@@ -1,5 +1,6 @@
 """Numbering what a standing reaches, in the order of images."""
 
+from keptrest.frames import unlinked
 from keptrest.kinds import is_thing
 
 
@@ -72,3 +73,16 @@ def image_and_order(standing):
         return store[address]
 
     return numbered_image(control, kont, winds, inputs, thing_at)
+
+
+def course_image(course):
+    """The image of the standing at which a course stands."""
+    memory = course.memory
+
+    def thing_at(address):
+        thing = memory.store[address]
+        if thing[0] == "kept":
+            return ("kept", unlinked(memory.link_at(address)), thing[2])
+        return thing
+
+    return numbered_image(course.control, unlinked(course.link), course.winds, course.inputs, thing_at)[0]

@@ -2,8 +2,8 @@
 
 from keptrest.core import core_places, depth_of, node_count
 from keptrest.coreform import first_fault
-from keptrest.course import Course
 from keptrest.emitter import Emitter, call, function, sourced, var
+from keptrest.freecourse import FreeCourse
 from keptrest.heads import head_of
 from keptrest.meaning import standing_of_course
 from keptrest.spots import CALLING_PRIMS, Spots
@@ -13,7 +13,6 @@ from keptrest.terms import all_binders, is_counted
 PROMPT_PRIMS = ("prompt", "take")
 MOST_NODES = 400
 DEEPEST = 60
-NO_LIMIT = 10 ** 30
 
 
 def prompt_places(name):
@@ -30,16 +29,6 @@ def is_prompt_program(value):
     return node_count(value) <= MOST_NODES and depth_of(value) <= DEEPEST
 
 
-class PromptCourse(Course):
-    """A run of a prompt program, which has no limits."""
-
-    def __init__(self, program, standing):
-        Course.__init__(self, program, (NO_LIMIT, NO_LIMIT), standing)
-
-    def has_room(self, _):
-        return True
-
-
 def prompt_start(_, inputs):
     """The first standing."""
     return (("eval", (), ()), (("mark", ()),), (), (), inputs, ())
@@ -47,7 +36,7 @@ def prompt_start(_, inputs):
 
 def prompt_step(program, standing):
     """("on", STANDING) with the next standing, or ("ended", ENDING, OUTPUT)."""
-    course = PromptCourse(program, standing)
+    course = FreeCourse(program, standing)
     ending = take_step(course)
     if ending is not None:
         return ("ended", ending, tuple(course.output))
@@ -56,7 +45,7 @@ def prompt_step(program, standing):
 
 def prompt_run(program, inputs, steps):
     """(ENDING, OUTPUT, COUNT) of a run of at most so many steps."""
-    course = PromptCourse(program, prompt_start(program, inputs))
+    course = FreeCourse(program, prompt_start(program, inputs))
     ending, count = take_steps(course, steps)
     return (ending, tuple(course.output), count)
 

@@ -60,7 +60,7 @@ def push_argument(course, place, done, env):
 
 def give_made(course, thing, place):
     """Makes a thing and gives it."""
-    value = course.make(thing)
+    value = course.make(thing, place)
     if value is None:
         return course.trap("memory", place)
     course.give(value)
@@ -70,7 +70,7 @@ def give_made(course, thing, place):
 def give_let(course, frame, value):
     """The value of a let's first part has come."""
     _, place, env = frame
-    pairs = boxed_pairs(course, [(course.places.term(place)[1], value)])
+    pairs = boxed_pairs(course, [(course.places.term(place)[1], value)], place)
     if pairs is None:
         return course.trap("memory", place)
     course.evaluate(place + (1,), with_pairs(env, pairs))
@@ -107,7 +107,7 @@ def give_args(course, frame, value):
 def give_began(course, frame, _):
     """The BEFORE of a wind has ended."""
     _, place, before, body, after = frame
-    wind = course.make(("wind", place, before, after, course.winds))
+    wind = course.make(("wind", place, before, after, course.winds), place)
     if wind is None:
         return course.trap("memory", place)
     course.come(wind)
@@ -157,7 +157,7 @@ GIVINGS = {
 
 
 def prim_keep(course, values, place):
-    kept = course.make_kept()
+    kept = course.make_kept(place)
     if kept is None:
         return course.trap("memory", place)
     return call(course, values[0], (kept,), place)
@@ -195,7 +195,7 @@ def prim_take(course, values, place):
     frames = []
     while course.link.frame[0] != "mark":
         frames.append(course.take_frame())
-    part = course.make(("part", tuple(frames[::-1])))
+    part = course.make(("part", tuple(frames[::-1])), place)
     return call(course, values[0], (part,), place)
 
 

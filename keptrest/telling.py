@@ -14,15 +14,6 @@ def frame_told(spots, kind, place, done, words):
     return (kind, place, tuple(words[:done]), env) if kind == "args" else (kind, place, env)
 
 
-def links_of(link):
-    """The frames of a link, the oldest first."""
-    frames = []
-    while link is not None:
-        frames.append(link.frame)
-        link = link.below
-    return frames[::-1]
-
-
 class Teller:
     """Tells of a machine of a code what it stands for. Values are the words of the machine's store."""
 
@@ -42,16 +33,19 @@ class Teller:
 
     def thing_told(self, engine, address):
         """The thing of the meaning for which the cell at an address stands."""
-        thing = engine.memory.store[address]
-        if thing[0] == "fn":
-            numbers = free_numbers_of(self.spots.at[thing[1]])
-            return ("fn", thing[1], tuple(list(zip(numbers, [word for _, word in thing[2]]))))
-        if thing[0] == "kept":
-            return ("kept", self.frames_below(engine.memory.link_at(address)), thing[2])
-        return thing
+        word = ("thing", address)
+        kind = engine.cell_kind(word)
+        if kind == "fn":
+            _, place, own = engine.memory.store[address]
+            numbers = free_numbers_of(self.spots.at[place])
+            return ("fn", place, tuple(list(zip(numbers, [value for _, value in own]))))
+        if kind == "kept":
+            return ("kept", self.frames_told(engine, engine.kept_link(word)), engine.part(word, 0))
+        return engine.memory.store[address]
 
-    def frames_below(self, link):
-        return tuple([self.kont_frame(frame) for frame in links_of(link)])
+    def frames_told(self, engine, link):
+        """The frames of the meaning for which those that a link tells stand, the oldest first."""
+        return tuple([self.kont_frame(frame) for frame in engine.frames_of_link(link)])
 
     def words_at(self, engine, sources):
         """The words of sources; None stands for nothing."""
@@ -95,5 +89,5 @@ class Teller:
         def thing_at(address):
             return self.thing_told(engine, address)
 
-        kont = (*self.frames_below(engine.link), *frames)
+        kont = (*self.frames_told(engine, engine.link), *frames)
         return numbered_image(control, kont, engine.winds, engine.inputs, thing_at)

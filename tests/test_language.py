@@ -23,6 +23,9 @@ METHODS = set(("append clear copy count endswith extend find get index insert is
                "bit_length from_iterable").split())
 
 
+SPECIAL = {"__init__", "__eq__", "__len__", "__enter__", "__exit__"}
+
+
 def trees():
     for file in FILES:
         yield file, ast.parse(file.read_text())
@@ -128,7 +131,7 @@ class Names(unittest.TestCase):
         for file, tree in trees():
             for name in bound_names(tree):
                 self.assertNotIn(name, ALL_BUILTINS | BARRED, (file.name, name))
-                if name not in ("__init__", "_"):
+                if name not in SPECIAL | {"_"}:
                     self.assertTrue(re.fullmatch("_?[A-Za-z][A-Za-z0-9_]*", name), (file.name, name))
 
     def test_no_local_name_hides_a_module_level_one(self):
@@ -221,7 +224,7 @@ class Calls(unittest.TestCase):
 
 class Statements(unittest.TestCase):
     def test_statements(self):
-        barred = (ast.AsyncFunctionDef, ast.Global, ast.Nonlocal, ast.Try, ast.With, ast.Yield, ast.YieldFrom, ast.Set,
+        barred = (ast.AsyncFunctionDef, ast.Global, ast.Nonlocal, ast.With, ast.GeneratorExp, ast.Yield, ast.YieldFrom, ast.Set,
                   ast.SetComp, ast.Div, ast.AnnAssign, ast.Starred)
         for file, tree in trees():
             for node in ast.walk(tree):
@@ -249,13 +252,35 @@ class Statements(unittest.TestCase):
                     self.assertNotIn("%", node.value, (file.name, node.lineno))
                     self.assertFalse(node.value.endswith(("._", ".__")), file.name)
 
-    def test_classes_have_plain_methods_alone(self):
+    def test_only_own_errors_are_caught(self):
+        own = {node.name for file, tree in trees() if file.stem == "errors" for node in tree.body if isinstance(node, ast.ClassDef)}
+        for file, tree in trees():
+            for node in ast.walk(tree):
+                if isinstance(node, ast.Try):
+                    self.assertEqual((node.finalbody, node.orelse), ([], []))
+                    for handler in node.handlers:
+                        self.assertIn(handler.type.id, own, (file.name, node.lineno))
+
+    def test_what_a_class_with_eq_and_len_bars(self):
+        """Lists are not sorted in place, and any, all, min and their kin take lists."""
+        for file, tree in trees():
+            for node in ast.walk(tree):
+                if isinstance(node, ast.Call) and isinstance(node.func, ast.Attribute):
+                    self.assertNotEqual(node.func.attr, "sort", (file.name, node.lineno))
+
+    def test_double_underscore_methods(self):
         for file, tree in trees():
             for node in ast.walk(tree):
                 if isinstance(node, ast.ClassDef):
                     for part in node.body:
                         if isinstance(part, ast.FunctionDef) and part.name.startswith("__"):
-                            self.assertEqual(part.name, "__init__", file.name)
+                            self.assertIn(part.name, SPECIAL if file.stem == "session" else {"__init__"}, file.name)
+                            if part.name == "__len__":
+                                self.assertTrue(ast.unparse(part.body[-1]).startswith("return len("))
+                            if part.name == "__exit__":
+                                for row in part.body:
+                                    self.assertIsInstance(row, ast.Assign)
+                                    self.assertIsInstance(row.value, ast.Attribute)
 
 
 if __name__ == "__main__":
