@@ -1,8 +1,6 @@
 """The pass that leaves out what constants tell: prims of constants, and tests of them."""
 
-from keptrest.unfolding import unfolded, visits_of
-
-IDLE_ROWS = ("test", "prim")
+from keptrest.unfolding import unfolded, walks_through
 
 
 def folded(program, code):
@@ -12,6 +10,4 @@ def folded(program, code):
 
 def idle_points(program, code):
     """The points of the idle rows to which some walk comes, ascending."""
-    rows = code[0]
-    found = {point: True for point, told in visits_of(program, code) if told is None and rows[point][0] in IDLE_ROWS}
-    return tuple(sorted(list(found)))
+    return tuple(sorted(list(walks_through(program, code).idle)))

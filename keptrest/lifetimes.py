@@ -24,10 +24,11 @@ class Lifetimes:
                 self.last_held[value[1]] = now
 
     def note_lost(self):
-        """Notes what changes took away from things since the last moment: it was reached at that one."""
+        """Notes what changes took away from things since the last moment, if there was one: it was reached then."""
         memory = self.memory
-        for thing in memory.lost:
-            self.note_values(thing_values(thing), len(self.sizes) - 1)
+        if self.sizes:
+            for thing in memory.lost:
+                self.note_values(thing_values(thing), len(self.sizes) - 1)
         memory.lost = []
 
     def note_moment(self, values, link):
@@ -65,8 +66,7 @@ class Lifetimes:
 
     def weights(self):
         """The words of all things that are reached, for each moment."""
-        if self.sizes:
-            self.note_lost()
+        self.note_lost()
         first = self.first_moments()
         rises = [0] * (len(self.sizes) + 1)
         for address, last in self.last_reached().items():

@@ -7,7 +7,7 @@ from keptrest.codemaps import count_window, sources_of
 from keptrest.codepoints import code_of_points, led_row, points_from_ends
 from keptrest.rowneeds import VALUE_BIT, handed_on, own_need, points_asked
 from keptrest.spots import mask_of
-from keptrest.unfolding import unfolded, visits_of
+from keptrest.unfolding import unfolded, walks_through
 
 GIVES = ("load", "from")
 
@@ -49,8 +49,8 @@ def waste_points(program, code):
     masks = masks_of_maps(maps)
     for point in points_from_ends(rows, maps):
         masks[point] = mask_of_row(rows[point], masks)
-    walked = {point: True for point, _ in visits_of(program, code)}
-    return tuple([point for point in sorted(list(walked)) if is_waste(rows[point], masks)])
+    walked = sorted(list(walks_through(program, code).walked))
+    return tuple([point for point in walked if is_waste(rows[point], masks)])
 
 
 def going_row(point, chart):

@@ -7,6 +7,7 @@ from keptrest.freecourse import FreeCourse
 from keptrest.heads import head_of
 from keptrest.meaning import standing_of_course
 from keptrest.spots import CALLING_PRIMS, Spots
+from keptrest.standings import start
 from keptrest.steps import take_step, take_steps
 from keptrest.terms import all_binders, is_counted
 
@@ -29,9 +30,10 @@ def is_prompt_program(value):
     return node_count(value) <= MOST_NODES and depth_of(value) <= DEEPEST
 
 
-def prompt_start(_, inputs):
+def prompt_start(program, inputs):
     """The first standing."""
-    return (("eval", (), ()), (("mark", ()),), (), (), inputs, ())
+    control, _, *others = start(program, inputs)
+    return (control, (("mark", ()),), *others)
 
 
 def prompt_step(program, standing):

@@ -75,6 +75,9 @@ class Session:
     def __eq__(self, other):
         return isinstance(other, Session) and same_data(told_facts(self), told_facts(other))
 
+    def __ne__(self, other):
+        return not self == other
+
     def __len__(self):
         return len(self.facts[0])
 

@@ -23,7 +23,7 @@ def used_points(code):
     return tuple(sorted(list(points_from([begin] + [entry[-1] for entry in entries], rows))))
 
 
-def pruned(_, code):
+def pruned(program, code):
     """The code without the points that are not in use."""
     points = used_points(code)
     return code_of_points(code, points, {point: k for k, point in enumerate(points)})
@@ -75,7 +75,7 @@ def met_points(code, first):
     return order
 
 
-def shared(_, code):
+def shared(program, code):
     """The code with one point for each class of points in use."""
     first = first_of_all(code)
     order = met_points(code, first)

@@ -12,23 +12,29 @@ from keptrest.rowside import RowSide
 from keptrest.signs import plain_word
 from keptrest.spots import Spots
 
+IDLE_ROWS = ("test", "prim")
+NO_LIMIT = 10 ** 30
+
 
 class Unfolding:
-    """Writes the rows of all walks. visits has the pairs (POINT, what the row told) of all rows come to.
+    """Writes the rows of all walks, and notes the points of rows that are walked, idle and knowable.
 
     Named points come first in the new code, in their order; moved leads them to their new points. A hole is a row
     and the index of a point in it that is still to be told, or None and the new point of a named one.
     """
 
-    def __init__(self, program, code, calls_known):
+    def __init__(self, program, code, calls_known, most_rows):
         self.code = code
         self.calls_known = calls_known
+        self.most_rows = most_rows
         self.spots = Spots(program)
         self.sure = self.spots.sure_fns()
         self.named = named_points(code)
         self.moved = {point: k for k, point in enumerate(self.named)}
         self.rows = [None] * len(self.named)
-        self.visits = []
+        self.walked = {}
+        self.idle = {}
+        self.knowable = {}
         self.waiting = []
 
     def unfold_all(self):
@@ -47,7 +53,7 @@ class Unfolding:
             point = side.point
             row = self.code[0][point]
             told = side.take_row()
-            self.visits.append((point, told))
+            self.note(point, row, told)
             if told is None and row[0] == "test":
                 continue
             new = self.write(self.new_row(row, told, side), hole)
@@ -58,6 +64,14 @@ class Unfolding:
             hole = (new, len(new) - 1 if row[0] != "test" else 1)
         hole[0][hole[1]] = self.moved[side.point]
 
+    def note(self, point, row, told):
+        """Notes what a row, to which a side has come, turned out to be."""
+        self.walked[point] = True
+        if told is None and row[0] in IDLE_ROWS:
+            self.idle[point] = True
+        elif row[0] == "call" and told[1][0] != "call":
+            self.knowable[point] = True
+
     def write(self, row, hole):
         """Puts a row where a hole leads, or in the place of a named point's row, and gives it."""
         target, index = hole
@@ -66,6 +80,8 @@ class Unfolding:
         else:
             target[index] = len(self.rows)
             self.rows.append(row)
+            if len(self.rows) > self.most_rows:
+                raise TooMany("rows")
         return row
 
     def new_row(self, row, told, side):
@@ -98,23 +114,24 @@ class Unfolding:
 
     def new_code(self):
         """The code of the rows that have been written."""
-        if len(self.rows) > MOST_ROWS:
-            raise TooMany("rows")
         _, maps, entries, begin = self.code
         charts = [maps[point] for point in self.named] + [None] * (len(self.rows) - len(self.named))
         heads = tuple([(*entry[:-1], self.moved[entry[-1]]) for entry in entries])
         return (tuple([tuple(row) for row in self.rows]), tuple(charts), heads, self.moved[begin])
 
 
+def toured(program, code, calls_known, most_rows):
+    """The unfolding of a code that has gone along all its walks."""
+    unfolding = Unfolding(program, code, calls_known, most_rows)
+    unfolding.unfold_all()
+    return unfolding
+
+
 def unfolded(program, code, calls_known):
     """A code unfolded; if calls are to be known, rows "call" whose functions the walks tell become what they are."""
-    unfolding = Unfolding(program, code, calls_known)
-    unfolding.unfold_all()
-    return unfolding.new_code()
+    return toured(program, code, calls_known, MOST_ROWS).new_code()
 
 
-def visits_of(program, code):
-    """The pairs (POINT, what the row told) of all rows to which walks come."""
-    unfolding = Unfolding(program, code, False)
-    unfolding.unfold_all()
-    return unfolding.visits
+def walks_through(program, code):
+    """An unfolding, however great, that has noted what the rows of a code turned out to be."""
+    return toured(program, code, False, NO_LIMIT)

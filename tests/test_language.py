@@ -23,7 +23,7 @@ METHODS = set(("append clear copy count endswith extend find get index insert is
                "bit_length from_iterable").split())
 
 
-SPECIAL = {"__init__", "__eq__", "__len__", "__enter__", "__exit__"}
+SPECIAL = {"__init__", "__eq__", "__ne__", "__len__", "__enter__", "__exit__"}
 
 
 def trees():

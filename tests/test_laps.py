@@ -151,6 +151,13 @@ class Turns(Case):
             for place in places_of(term):
                 self.same(turns(term, inputs, place, 90), tuple(told.get(place, ())))
 
+    def test_changes_ahead_of_the_first_turn(self):
+        """What a change took away ahead of the first turn does not count at it."""
+        term = program("(let ((p (pair (pair 1 2) 3))) (let ((f (fn () p))) (seq (put-first p 5) (f))))")
+        body = [place for place in places_of(term) if turns(term, (), place, 90)][-1]
+        ((done, weight, _),) = turns(term, (), body, 90)
+        self.assertEqual(weight, plain_meaning.weight(plain_free.free_run(term, (), 90)[0][done]))
+
     def test_loops_by_tail_calls(self):
         """[122]: the same KONT at each turn."""
         for name in ("one turn", "two turns", "counts down to a loop", "output"):

@@ -403,6 +403,11 @@ class Equality(Case):
             self.unequal(session, other)
             self.assertFalse(other == session)
 
+    def test_listed_methods_are_its_own(self):
+        for name in ("hold", "drop", "lots", "program", "run", "start", "go", "saved", "load", "forget", "held_runs", "undo", "redo",
+                     "__init__", "__eq__", "__ne__", "__len__", "__enter__", "__exit__"):
+            self.assertIn(name, vars(Session))
+
     def test_not_hashed(self):
         self.assertRaises(TypeError, hash, Session(LIMITS))
         self.assertIsNone(Session.__hash__)

@@ -321,7 +321,7 @@ class Loading(Case):
                         self.goes_along(term, code, states, there[5] + output, whole)
                 else:
                     self.same((ending, there[5] + output), whole[:2])
-        self.assertTrue(all(many > 9 for many in found.values()), found)
+        self.assertTrue(all(many > 3 for many in found.values()), found)
 
     def named(self, term, code, image):
         """to_named, compared with single steps of go_on."""
