@@ -468,6 +468,17 @@ class AllCodes(Case):
             self.check_points(program, code)
             self.check_runs(program, [code] + self.check_passes(program, code), inputs)
 
+    def test_a_code_that_is_not_steady(self):
+        """It is let by, and what the passes make of it is, too."""
+        program = prim("show", prim("ask"))
+        frame = ("args", (), 0, ())
+        rows = (("prim", "ask", (0,), (), 1), ("push", 2, (), 4), ("to", 0, 3), ("prim", "show", (), (0,), 4), ("back",))
+        code = code_of(*rows, maps={1: ("give", (frame,)), 2: ("give", (frame,)), 4: GIVE})
+        self.let_by(program, code)
+        self.assertFalse(is_steady(program, code))
+        self.check_points(program, code)
+        self.check_passes(program, code)
+
     def test_odd_codes(self):
         source, made, odd = random.Random(4), plain_meaning.Programs(4), Odd(4)
         told = {"idle": 0, "knowable": 0, "unsound": 0, "local": 0}
